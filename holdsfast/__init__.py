@@ -1,0 +1,1 @@
+"""Holdsfast: one table of cuts, and all ways in which a net holds."""

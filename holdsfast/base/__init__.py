@@ -1,0 +1,1 @@
+"""What all parts of the package stand on: words, nets, lots and partings."""

@@ -1,0 +1,64 @@
+"""Tuples of places: pairs, lots, and how places are gathered in parts."""
+
+
+def pair_of(one, other):
+    """Return the pair of two different places, the lesser one first."""
+    return (one, other) if one < other else (other, one)
+
+
+def pairs_of(places):
+    """Return the ascending tuple of all pairs of ascending places."""
+    return tuple([(one, other) for one in places for other in places if one < other])
+
+
+def is_lot_of(places, value):
+    """Tell whether a value is an ascending tuple of some of the places, none and all let."""
+    if not isinstance(value, tuple):
+        return False
+    if not all([isinstance(place, str) and place in places for place in value]):
+        return False
+    return is_ascending(value)
+
+
+def is_ascending(value):
+    """Tell whether the items of a tuple, which can be compared, ascend."""
+    return all([one < other for one, other in zip(value, value[1:])])
+
+
+def is_pair_of(places, value):
+    """Tell whether a value is a pair of two of the places."""
+    return is_lot_of(places, value) and len(value) == 2
+
+
+def gathered(places, pairs):
+    """Return the finest parting of the places in which both places of each pair are in one part."""
+    heads = {place: place for place in places}
+    for one, other in pairs:
+        kept, lost = heads[one], heads[other]
+        for place in places:
+            if heads[place] == lost:
+                heads[place] = kept
+    parts = {}
+    for place in places:
+        parts.setdefault(heads[place], []).append(place)
+    return tuple(sorted([tuple(part) for part in parts.values()]))
+
+
+def all_lots(places):
+    """Return the ascending list of all lots of ascending places, none and all of them let."""
+    rows = [()]
+    for place in places:
+        rows = rows + [row + (place,) for row in rows]
+    return sorted(rows)
+
+
+def all_partings(places):
+    """Return the ascending list of all partings of ascending places."""
+    if not places:
+        return [()]
+    rows = []
+    for more in all_lots(places[1:]):
+        left = tuple([place for place in places[1:] if place not in more])
+        for row in all_partings(left):
+            rows.append((places[:1] + more,) + row)
+    return rows

@@ -1,0 +1,61 @@
+"""The examples of the document, as they stand there."""
+
+import doctest
+import unittest
+
+from holdsfast.base import lots, nets, words
+
+NETS = """
+>>> RING = Net(("a", "b", "c", "d"), {("a", "b"): 1, ("a", "d"): 1, ("b", "c"): 1, ("c", "d"): 1})
+>>> FULL = Net(("a", "b", "c", "d"), {("a", "b"): 1, ("a", "c"): 1, ("a", "d"): 1, ("b", "c"): 1, ("b", "d"): 1, ("c", "d"): 1})
+>>> HUB = Net(("a", "b", "c", "z"), {("a", "z"): 2, ("b", "z"): 1, ("c", "z"): 1, ("a", "b"): 1})
+>>> PATH = Net(("a", "b", "c"), {("a", "b"): 2, ("b", "c"): 1})
+"""
+
+WORDS = """
+>>> [is_place("hall"), is_place("A"), is_place(""), fraction(6, 4), fraction(-2, 6), fraction(0, 7), is_fraction((4, 2)), is_lower((3, 2), (5, 3)), greatest((1, 2), (2, 3), (3, 5))]
+[True, False, False, (3, 2), (-1, 3), (0, 1), False, True, (2, 3)]
+"""
+
+MADE_NETS = """
+>>> [FULL == Net.full(("d", "c", "b", "a")), RING == Net.ring(("a", "b", "c", "d")), HUB.degrees, HUB.odd, HUB.near("z"), PATH.tied("c", "b"), str(HUB)]
+[True, True, {'a': 3, 'b': 2, 'c': 1, 'z': 4}, ('a', 'c'), ('a', 'b', 'c'), 1, 'net of 4 places, 5 ties']
+>>> [PATH.untied("a", "b").ties, PATH.without_place("b").pieces, HUB.within(("a", "b", "z")).size, HUB.shrunk(("a", "b"), "k").ties, PATH.times(2).size, RING.plus(FULL).size]
+[{('a', 'b'): 1, ('b', 'c'): 1}, (('a',), ('c',)), 4, {('c', 'z'): 1, ('k', 'z'): 3}, 6, 10]
+"""
+
+LOTS = """
+>>> [cut(HUB, ("a", "b")), inside(HUB, ("a", "b")), rest(HUB, ("a", "z")), do_cross(FULL, ("a", "b"), ("b", "c")), do_cross(FULL, ("a",), ("a", "b")), len(lots(FULL)), cut_table(PATH)[("a",)]]
+[3, 1, ('b', 'c'), True, False, 14, 2]
+>>> [list(partings(PATH))[:2], len(list(partings(FULL))), across(HUB, (("a", "b"), ("c", "z"))), parted_by(HUB, (("a", "z"),))]
+[[(('a',), ('b',), ('c',)), (('a',), ('b', 'c'))], 15, 3, (('a', 'z'), ('b',), ('c',))]
+>>> [is_finer(PATH, (("a",), ("b",), ("c",)), (("a", "b"), ("c",))), met(PATH, (("a", "b"), ("c",)), (("a",), ("b", "c"))), merged(PATH, (("a", "b"), ("c",)), (("a",), ("b", "c")))]
+[True, (('a',), ('b',), ('c',)), (('a', 'b', 'c'),)]
+"""
+
+
+MODULES = (words, nets, lots)
+
+
+class TestExamples(unittest.TestCase):
+    def check(self, text):
+        """Run the examples of a section; the nets of the document are there for all of them."""
+        known = {name: vars(module)[name] for module in MODULES for name in vars(module) if name[0] != "_"}
+        test = doctest.DocTestParser().get_doctest(NETS + text, known, "document", None, 0)
+        self.assertGreater(len(test.examples), 4)
+        lines = []
+        found = doctest.DocTestRunner().run(test, out=lines.append)
+        self.assertEqual(found.failed, 0, "".join(lines))
+
+    def test_words(self):
+        self.check(WORDS)
+
+    def test_nets(self):
+        self.check(MADE_NETS)
+
+    def test_lots(self):
+        self.check(LOTS)
+
+
+if __name__ == "__main__":
+    unittest.main()

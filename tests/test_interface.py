@@ -1,0 +1,63 @@
+"""The interface: each name stands in its module, is defined there, and has the arguments that are told."""
+
+import importlib
+import inspect
+import unittest
+
+MODULES = {
+    "holdsfast.errors": {
+        "ParseError": "line", "UnknownPlace": "place", "InvalidNumber": "value", "TooMany": "limit",
+        "NothingToUndo": "many", "Refused": "reason",
+    },
+    "holdsfast.base.words": {
+        "is_place": "value", "is_fraction": "value", "fraction": "numerator, denominator", "is_lower": "one, other",
+        "greatest": "*fractions",
+    },
+    "holdsfast.base.nets": {"Net": "places, ties=None"},
+    "holdsfast.base.lots": {
+        "is_lot": "net, value", "is_parting": "net, value", "lots": "net", "cut": "net, lot", "inside": "net, lot",
+        "cut_table": "net", "rest": "net, lot", "do_cross": "net, one, other", "partings": "net",
+        "across": "net, parting", "parted_by": "net, forest", "is_finer": "net, parting, other",
+        "met": "net, parting, other", "merged": "net, parting, other",
+    },
+}
+PLAIN_ERRORS = ("NetError", "InvalidNet", "InvalidLot", "InvalidParting", "InvalidOperation")
+METHODS = {
+    "full": "places, *, many=1", "ring": "places, *, many=1", "tied": "one, other", "near": "place",
+    "joined": "one, other, many=1", "untied": "one, other, many=1", "with_place": "place", "without_place": "place",
+    "within": "lot", "shrunk": "lot, place", "renamed": "names", "times": "many", "plus": "other",
+}
+PROPERTIES = ("places", "ties", "size", "pairs", "degrees", "odd", "pieces", "is_joined")
+OPERATORS = ("__len__", "__contains__", "__iter__", "__eq__", "__str__")
+
+
+class TestInterface(unittest.TestCase):
+    def test_names_and_arguments(self):
+        for module, names in MODULES.items():
+            held = importlib.import_module(module)
+            for name, arguments in names.items():
+                found = vars(held)[name]
+                self.assertEqual(found.__module__, module, name)
+                self.assertEqual(str(inspect.signature(found)), f"({arguments})", name)
+
+    def test_errors(self):
+        held = importlib.import_module("holdsfast.errors")
+        for name in PLAIN_ERRORS:
+            self.assertEqual(vars(held)[name].__module__, "holdsfast.errors")
+
+    def test_net(self):
+        net = importlib.import_module("holdsfast.base.nets").Net
+        made = net(("a", "b"))
+        for name, arguments in METHODS.items():
+            self.assertIn(name, vars(net))
+            self.assertEqual(str(inspect.signature(getattr(made, name))), f"({arguments})", name)
+        for name in ("full", "ring"):
+            self.assertIsInstance(vars(net)[name], classmethod)
+        for name in PROPERTIES:
+            self.assertIsInstance(vars(net)[name], property)
+        for name in OPERATORS:
+            self.assertIn(name, vars(net))
+
+
+if __name__ == "__main__":
+    unittest.main()
