@@ -15,6 +15,8 @@ LIBRARY = {
     "heapq": {"heappush", "heappop", "heapify", "heapreplace", "heappushpop"},
     "math": {"gcd", "lcm", "isqrt", "comb", "perm", "factorial"},
 }
+# A test that runs examples may leave its last result among the builtins, as "_".
+BUILTIN_NAMES = {name for name in dir(builtins) if name != "_"}
 BUILTINS = set(
     "len range enumerate zip min max sum abs sorted reversed int str bool bytes list tuple dict set frozenset "
     "isinstance ord repr any all divmod iter next map super property staticmethod classmethod Exception ValueError "
@@ -71,7 +73,7 @@ def folder_complaints(package):
             yield f"L14 {path} has the name of a folder beside it"
         if name in ("__init__", "__main__"):
             continue
-        if not re.fullmatch("[a-z][a-z0-9_]*", name) or hasattr(builtins, name):
+        if not re.fullmatch("[a-z][a-z0-9_]*", name) or name in BUILTIN_NAMES:
             yield f"L14 {path} has a name that is not let"
         if name in BARRED_FILES | BARRED_WORDS or name.startswith(("law_", "test_")) or name in LIBRARY:
             yield f"L14 {path} has a barred name"
@@ -183,7 +185,7 @@ def name_complaints(text):
         if name in BARRED_EVERYWHERE or name.startswith(("f_", "tb_", "co_", "gi_", "cr_")):
             yield f"L17 {name} is barred"
     for name in bound - methods:
-        if hasattr(builtins, name):
+        if name in BUILTIN_NAMES:
             yield f"L15 {name} is the name of a builtin"
     for name in bound & BARRED_NAMES:
         yield f"L17 {name} is barred as a name"
@@ -227,9 +229,9 @@ def call_complaints(text, own_methods):
     bound = bound_names(tree)
     for node in ast.walk(tree):
         if isinstance(node, ast.Name) and isinstance(node.ctx, ast.Load):
-            if hasattr(builtins, node.id) and node.id not in BUILTINS and node.id not in bound:
+            if node.id in BUILTIN_NAMES and node.id not in BUILTINS and node.id not in bound:
                 yield f"L8 {node.id} is not let"
-            if not hasattr(builtins, node.id) and node.id not in bound:
+            if node.id not in BUILTIN_NAMES and node.id not in bound:
                 yield f"L8 {node.id} is not known"
         if isinstance(node, ast.Call) and isinstance(node.func, ast.Attribute):
             if node.func.attr not in METHODS | own_methods and not node.func.attr.startswith("__"):

@@ -4,6 +4,8 @@ import doctest
 import unittest
 
 from holdsfast.base import lots, nets, words
+from holdsfast.least import cuts, webs
+from holdsfast.ways import numbers, trees
 
 NETS = """
 >>> RING = Net(("a", "b", "c", "d"), {("a", "b"): 1, ("a", "d"): 1, ("b", "c"): 1, ("c", "d"): 1})
@@ -33,8 +35,32 @@ LOTS = """
 [True, (('a',), ('b',), ('c',)), (('a', 'b', 'c'),)]
 """
 
+NUMBERS = """
+>>> [number(HUB, "a", "z"), numbers(PATH), least_lot(HUB, "z", "c"), is_family(HUB, "b", "z", (("b", "z"), ("b", "a", "z"))), is_number_paper(PATH, "a", "c", ((("a", "b", "c"),), ("a", "b")))]
+[3, {('a', 'b'): 2, ('a', 'c'): 1, ('b', 'c'): 1}, ('a', 'b', 'z'), True, True]
+"""
 
-MODULES = (words, nets, lots)
+TREES = """
+>>> [cut_tree(PATH), is_cut_tree(FULL, (("a", "b", 3), ("a", "c", 3), ("a", "d", 3))), is_cut_tree(PATH, (("a", "b", 2), ("a", "c", 1))), tree_number(PATH, cut_tree(PATH), "c", "a"), tree_lot(PATH, cut_tree(PATH), 1)]
+[(('a', 'b', 2), ('b', 'c', 1)), True, False, 1, ('a', 'b')]
+"""
+
+CUTS = """
+>>> [least_cut(HUB), least_lots(HUB), leaves(HUB), least_cut(FULL), least_lots(FULL), leaves(RING)]
+[1, (('a', 'b', 'z'),), (('a', 'b', 'z'), ('c',)), 3, (('a',), ('a', 'b', 'c'), ('a', 'b', 'd'), ('a', 'c', 'd')), (('a',), ('b',), ('c',), ('d',))]
+>>> [len(least_lots(RING)), crossing(RING), is_least(RING, ("b", "c")), is_least(RING, ("a", "c")), is_least_paper(PATH, (("c",), cut_tree(PATH)))]
+[6, ((('a', 'b'), ('a', 'd')),), True, False, True]
+"""
+
+WEBS = """
+>>> star = ((("a",), ("b",), ("c",), ("d",), ()), ((0, 4), (1, 4), (2, 4), (3, 4)))
+>>> [is_ring_web(FULL, star), is_ring_web(RING, star), web_lots(RING, star), node_of(FULL, star, "c"), is_web(FULL, ((("a",), ("b", "c", "d")), ((0, 1), (1, 0))))]
+[True, False, (('a',), ('a', 'b', 'c'), ('a', 'b', 'd'), ('a', 'c', 'd')), 2, False]
+>>> [is_ring_web(RING, ((("a",), ("b",), ("c",), ("d",)), ((0, 1, 2, 3),))), is_ring_web(HUB, ((("a", "b", "z"), ("c",)), ((0, 1),))), web_leaves(HUB, ring_web(HUB))]
+[True, True, (('a', 'b', 'z'), ('c',))]
+"""
+
+MODULES = (words, nets, lots, numbers, trees, cuts, webs)
 
 
 class TestExamples(unittest.TestCase):
@@ -55,6 +81,18 @@ class TestExamples(unittest.TestCase):
 
     def test_lots(self):
         self.check(LOTS)
+
+    def test_numbers(self):
+        self.check(NUMBERS)
+
+    def test_trees(self):
+        self.check(TREES)
+
+    def test_cuts(self):
+        self.check(CUTS)
+
+    def test_webs(self):
+        self.check(WEBS)
 
 
 if __name__ == "__main__":

@@ -20,6 +20,23 @@ MODULES = {
         "across": "net, parting", "parted_by": "net, forest", "is_finer": "net, parting, other",
         "met": "net, parting, other", "merged": "net, parting, other",
     },
+    "holdsfast.ways.numbers": {
+        "number": "net, one, other", "numbers": "net", "family": "net, one, other",
+        "is_family": "net, one, other, value", "least_lot": "net, one, other", "number_paper": "net, one, other",
+        "is_number_paper": "net, one, other, value",
+    },
+    "holdsfast.ways.trees": {
+        "cut_tree": "net", "is_cut_tree": "net, value", "tree_number": "net, tree, one, other",
+        "tree_lot": "net, tree, index",
+    },
+    "holdsfast.least.cuts": {
+        "least_cut": "net", "least_lots": "net", "is_least": "net, lot", "leaves": "net", "crossing": "net",
+        "least_paper": "net", "is_least_paper": "net, value",
+    },
+    "holdsfast.least.webs": {
+        "ring_web": "net", "is_ring_web": "net, value", "is_web": "net, value", "web_lots": "net, web",
+        "web_leaves": "net, web", "node_of": "net, web, place",
+    },
 }
 PLAIN_ERRORS = ("NetError", "InvalidNet", "InvalidLot", "InvalidParting", "InvalidOperation")
 METHODS = {

@@ -1,0 +1,1 @@
+"""Least cuts of a net, and webs that tell all of them."""

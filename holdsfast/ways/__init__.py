@@ -1,0 +1,1 @@
+"""Ways between two places, and trees that tell their numbers."""
