@@ -18,7 +18,17 @@ TWO = Net(("a", "b"), {("a", "b"): 3})
 APART = Net(("a", "b", "c", "d", "e"), {("a", "b"): 2, ("c", "e"): 1})
 SEVEN = Net.full(("a", "b", "c", "d", "e", "f", "g"))
 CROWD = Net.full(("a", "b", "c", "d", "e", "f"), many=2).times(2)
-EXAMPLES = (RING, FULL, HUB, PATH, POINT, TWO, APART, SEVEN, CROWD)
+# Two rings of least cuts meet in a node that has no place.
+PAIRED = Net(tuple("abcdef"), {("a", "b"): 2, ("b", "c"): 2, ("d", "e"): 2, ("e", "f"): 2, ("a", "d"): 1, ("a", "f"): 1,
+                               ("c", "d"): 1, ("c", "f"): 1})
+# Here steps of earlier ways have to be taken back before all ways from a to g are found.
+WOVEN = Net(tuple("abcdefg"), {
+    ("a", "b"): 2, ("a", "c"): 1, ("a", "e"): 1, ("a", "f"): 3, ("b", "c"): 1, ("b", "e"): 1, ("b", "f"): 3,
+    ("b", "g"): 3, ("c", "d"): 1, ("c", "e"): 1, ("d", "e"): 1, ("d", "g"): 3, ("e", "g"): 3})
+TANGLED = Net(tuple("abcdefg"), {
+    ("a", "d"): 3, ("a", "e"): 3, ("a", "f"): 1, ("a", "g"): 3, ("b", "c"): 1, ("b", "d"): 3, ("b", "e"): 1,
+    ("b", "g"): 2, ("c", "d"): 1, ("c", "e"): 2, ("c", "g"): 1, ("d", "f"): 2, ("e", "g"): 1, ("f", "g"): 3})
+EXAMPLES = (RING, FULL, HUB, PATH, POINT, TWO, APART, SEVEN, CROWD, PAIRED, WOVEN, TANGLED)
 
 HUGE = 10 ** 39 + 7
 DEEP = (((((((("a",),),),),),),),)

@@ -97,13 +97,21 @@ class TestJudges(unittest.TestCase):
             one, other = net.places[0], net.places[-1]
             for size in range(3):
                 for ways in itertools.product(rows, repeat=size):
-                    right = share_no_tie(net, one, other, ways)
-                    self.assertIs(is_family(net, one, other, ways), right and len(ways) == number(net, one, other))
-                    if size == 2 and not right:
-                        continue
-                    for lot in counting_lots(net):
-                        fits = right and lot in parting_lots(net, one, other) and count_cut(net, lot) == size
-                        self.assertIs(is_number_paper(net, one, other, (ways, lot)), fits)
+                    self.check_family(net, one, other, ways)
+
+    def check_family(self, net, one, other, ways):
+        right = share_no_tie(net, one, other, ways)
+        self.assertIs(is_family(net, one, other, ways), right and len(ways) == number(net, one, other))
+        for lot in counting_lots(net) if right or len(ways) < 2 else ():
+            fits = right and lot in parting_lots(net, one, other) and count_cut(net, lot) == len(ways)
+            self.assertIs(is_number_paper(net, one, other, (ways, lot)), fits)
+
+    def test_ways_that_go_round(self):
+        for net in (PATH, HUB, Net(("a", "b", "c"), {("a", "b"): 4, ("b", "c"): 3, ("a", "c"): 2})):
+            for one, other in ends(net):
+                for size in range(2, 6):
+                    for between in itertools.product(net.places, repeat=size - 2):
+                        self.check_family(net, one, other, ((one,) + between + (other,),))
 
     def test_other_orders_and_ways(self):
         for ways in itertools.permutations(FAMILY):

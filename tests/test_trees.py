@@ -95,6 +95,14 @@ class TestJudge(Refusals, unittest.TestCase):
         if len(tree) > 1:
             self.assertIs(is_cut_tree(net, tree[::-1]), False)
 
+    def test_circles_are_no_trees(self):
+        for net in (PATH, RING, FULL, HUB, TWO):
+            for size in range(len(net) + 1):
+                for pairs in itertools.combinations(net.pairs, size):
+                    value = tuple(pair + (least_count(net, *pair),) for pair in pairs)
+                    right = all(triple[1] not in side_of(value, triple) for triple in value)
+                    self.assertIs(is_cut_tree(net, value), right and is_right_tree(net, value), value)
+
     def test_true_is_no_one(self):
         net = Net(("a", "b"), {("a", "b"): 1})
         self.assertIs(is_cut_tree(net, (("a", "b", 1),)), True)

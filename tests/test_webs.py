@@ -8,7 +8,7 @@ from holdsfast.errors import InvalidNet, InvalidOperation, UnknownPlace
 from holdsfast.least.cuts import leaves, least_lots
 from holdsfast.least.webs import is_ring_web, is_web, node_of, ring_web, web_leaves, web_lots
 from tests.helpers import (
-    APART, CROWD, EXAMPLES, FULL, HUB, HUGE, ODD_VALUES, PATH, POINT, RING, SEVEN, TWO, Refusals, count_cut,
+    APART, CROWD, EXAMPLES, FULL, HUB, HUGE, ODD_VALUES, PAIRED, PATH, POINT, RING, SEVEN, TWO, Refusals, count_cut,
     counting_lots, mixed_nets, raised, same, small_nets, wrong_nets,
 )
 
@@ -219,6 +219,16 @@ class TestRingWebs(unittest.TestCase):
             self.assertEqual(web_lots(TWO, web), (("a",),))
             self.assertEqual((web_leaves(TWO, web), node_of(TWO, web, "b")), ((("a",), ("b",)), many - 1))
             self.assertIs(is_ring_web(TWO, web), many <= 20)
+
+    def test_rings_that_meet_in_an_empty_node(self):
+        web = ((("a",), ("b",), ("c",), (), ("d",), ("e",), ("f",)), ((0, 1, 2, 3), (4, 5, 6, 3)))
+        self.assertIs(is_ring_web(PAIRED, web), True)
+        self.assertEqual(sorted(len(ring) for ring in ring_web(PAIRED)[1]), [4, 4])
+        for first in "bcdef":
+            names = {place: "a" if place == first else first if place == "a" else place for place in PAIRED}
+            net = PAIRED.renamed(names)
+            self.assertEqual(told_lots(net, ring_web(net)), count_least(net))
+            self.assertIs(is_ring_web(net, ring_web(net)), True)
 
     def test_seven_places(self):
         ring = Net.ring(SEVEN.places)

@@ -23,13 +23,13 @@ def is_parting(net, value):
 
 
 def check_lot(net, lot):
-    """Refuse what is no lot of the net that counts."""
+    """Refuse what is no net, and what is no lot of it that counts."""
     if not is_lot(net, lot):
         raise InvalidLot("this is no lot of the net that counts")
 
 
 def check_parting(net, parting):
-    """Refuse what is no parting of the net."""
+    """Refuse what is no net, and what is no parting of it."""
     if not is_parting(net, parting):
         raise InvalidParting("this is no parting of the net")
 
@@ -42,7 +42,6 @@ def lots(net):
 
 def cut(net, lot):
     """Return the number of ties from the places of a lot to other ones."""
-    check_net(net)
     check_lot(net, lot)
     return _cut_of(net.ties, lot)
 
@@ -69,14 +68,12 @@ def cut_table(net):
 
 def rest(net, lot):
     """Return the lot of the other places."""
-    check_net(net)
     check_lot(net, lot)
     return tuple([place for place in net.places if place not in lot])
 
 
 def do_cross(net, one, other):
     """Tell whether two lots cross."""
-    check_net(net)
     check_lot(net, one)
     check_lot(net, other)
     both = len([place for place in one if place in other])
@@ -93,7 +90,6 @@ def partings(net):
 
 def across(net, parting):
     """Return the number of ties across a parting."""
-    check_net(net)
     check_parting(net, parting)
     ties = net.ties
     # Each tie across leaves two parts, so it is in two of their cuts.
@@ -114,7 +110,6 @@ def is_net_forest(net, value):
 
 def parted_by(net, forest):
     """Return the finest parting in which the places of each pair of a forest are in one part."""
-    check_net(net)
     if not is_net_forest(net, forest):
         raise InvalidOperation("this is no forest of the net")
     return gathered(net.places, forest)
@@ -139,6 +134,5 @@ def merged(net, parting, other):
 
 
 def _check_both(net, parting, other):
-    check_net(net)
     check_parting(net, parting)
     check_parting(net, other)

@@ -48,8 +48,6 @@ def is_lower(one, other):
 
 def greatest(*fractions):
     """Return the greatest of one or more fractions."""
-    for value in fractions:
-        _check_fraction(value)
     if not fractions:
         raise InvalidOperation("there is no fraction")
     best = fractions[0]

@@ -1,6 +1,6 @@
 """Least cuts of a net, and the lots that have them."""
 
-from holdsfast.base.lots import check_lot, cut, cut_table, do_cross, is_lot
+from holdsfast.base.lots import cut, cut_table, do_cross, is_lot
 from holdsfast.base.nets import check_net
 from holdsfast.errors import InvalidOperation
 from holdsfast.ways.trees import cut_tree, is_cut_tree
@@ -20,8 +20,6 @@ def least_lots(net):
 
 def is_least(net, lot):
     """Tell whether a lot is least."""
-    check_net(net)
-    check_lot(net, lot)
     return cut(net, lot) == least_cut(net)
 
 
@@ -34,14 +32,12 @@ def leaves(net):
 
 def crossing(net):
     """Return the ascending tuple of the pairs of least lots with the first place that cross."""
-    _check_two_or_more(net)
     least = least_lots(net)
     return tuple([(one, other) for one in least for other in least if one < other and do_cross(net, one, other)])
 
 
 def least_paper(net):
     """Return a pair of a least lot and a cut tree whose least number is its cut."""
-    _check_two_or_more(net)
     return (least_lots(net)[0], cut_tree(net))
 
 

@@ -148,7 +148,7 @@ def web_lots(net, web):
     told = []
     for at, ring in enumerate(rings):
         hung = [[place for node in _reached(web, index, at) for place in nodes[node]] for index in ring]
-        told.extend([lot for lot in _arcs(net.places, hung) if 0 < len(lot) < len(net)])
+        told.extend([lot for lot in _arcs(net.places, hung) if len(lot) < len(net)])
     return tuple(sorted(set(told)))
 
 
@@ -167,7 +167,8 @@ def web_leaves(net, web):
     """Return the ascending tuple of the lots, not empty, of the nodes that are in one ring alone."""
     _check_web(net, web)
     rings_at = _rings_at(web)
-    return tuple(sorted([lot for index, lot in enumerate(web[0]) if lot and len(rings_at[index]) == 1]))
+    # A web has no node without places in one ring alone.
+    return tuple(sorted([lot for index, lot in enumerate(web[0]) if len(rings_at[index]) == 1]))
 
 
 def node_of(net, web, place):
@@ -178,12 +179,10 @@ def node_of(net, web, place):
 
 
 def _check_web(net, web):
-    check_net(net)
     if not is_web(net, web):
         raise InvalidOperation("this is no web of the net")
 
 
 def _check_ringed(net):
-    check_net(net)
-    if len(net) == 1 or least_cut(net) == 0:
-        raise InvalidOperation("there is no ring web of one place, or of a net in pieces")
+    if least_cut(net) == 0:
+        raise InvalidOperation("a net in pieces has no ring web")

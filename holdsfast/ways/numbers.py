@@ -15,7 +15,6 @@ def number(net, one, other):
 
 def numbers(net):
     """Return the dict from all pairs to their numbers."""
-    check_net(net)
     table = cut_table(net)
     return {
         (one, other): min([table[lot] for lot in table if (one in lot) != (other in lot)])
@@ -50,7 +49,6 @@ def least_lot(net, one, other):
 
 def number_paper(net, one, other):
     """Return a pair of ways that share no tie, and a lot with as large a cut that has the one place alone."""
-    _check_ends(net, one, other)
     return (family(net, one, other), least_lot(net, one, other))
 
 

@@ -71,7 +71,6 @@ def _half(places, tree, index):
 
 def tree_number(net, tree, one, other):
     """Return the least number of the triples between two places."""
-    check_net(net)
     _check_tree(net, tree)
     check_two(net.places, one, other)
     halves = [_half(net.places, tree, index) for index in range(len(tree))]
@@ -80,7 +79,6 @@ def tree_number(net, tree, one, other):
 
 def tree_lot(net, tree, index):
     """Return the lot with the first place of the triple with this index that arises if it is left out."""
-    check_net(net)
     _check_tree(net, tree)
     if not is_integer(index) or not 0 <= index < len(tree):
         raise InvalidNumber(index)
