@@ -37,7 +37,7 @@ class Net:
         """Return the net with so many ties between each two places."""
         _check_places(places)
         check_many(many)
-        return cls(places, {pair: many for pair in pairs_of(sorted(places))})
+        return cls(places, {pair: many for pair in pairs_of(places)})
 
     @classmethod
     def ring(cls, places, *, many=1):
@@ -121,26 +121,19 @@ class Net:
 
     def with_place(self, place):
         """Return the net with one place more, without ties."""
-        if not is_place(place) or place in self._places:
-            raise InvalidNet("this cannot be a new place")
-        if len(self._places) == MAX_PLACES:
-            raise InvalidNet("there are as many places as a net can have")
+        # No word, one that is there, and an eighth one are refused as for any net.
         return _made(self._places + (place,), self._ties)
 
     def without_place(self, place):
         """Return the net without a place and its ties."""
         check_place(self._places, place)
-        if len(self._places) == 1:
-            raise InvalidNet("a net has one place at least")
-        return self._cut_down(tuple([other for other in self._places if other != place]))
+        # To be without the only place is refused as for any net.
+        return _made(tuple([other for other in self._places if other != place]), self._ties)
 
     def within(self, lot):
         """Return the net of the places of a lot, with the ties inside it."""
         self._check_lot(lot)
-        return self._cut_down(lot)
-
-    def _cut_down(self, places):
-        return _made(places, {pair: self._ties[pair] for pair in self._ties if is_pair_of(places, pair)})
+        return _made(lot, self._ties)
 
     def shrunk(self, lot, place):
         """Return the net with one place for a lot, with all ties that leave the lot."""
@@ -226,7 +219,10 @@ def _are_ties(places, value):
 
 
 def _made(places, ties):
-    """Return a net that a method makes; unlike those of callers, it may have up to sixty ties."""
+    """Return a net that a method makes: it may have up to sixty ties.
+
+    Ties of places that are not among its own are left out.
+    """
     if sum(list(ties.values())) > MAX_MADE:
         raise InvalidNet("there are more ties than a net can have")
     net = Net(places)

@@ -7,7 +7,7 @@ def pair_of(one, other):
 
 
 def pairs_of(places):
-    """Return the ascending tuple of all pairs of ascending places."""
+    """Return the tuple of all pairs of places, ascending if the places are."""
     return tuple([(one, other) for one in places for other in places if one < other])
 
 

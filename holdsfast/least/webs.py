@@ -148,7 +148,8 @@ def web_lots(net, web):
     told = []
     for at, ring in enumerate(rings):
         hung = [[place for node in _reached(web, index, at) for place in nodes[node]] for index in ring]
-        told.extend([lot for lot in _arcs(net.places, hung) if len(lot) < len(net)])
+        # A web ends in nodes with places, so both halves always have some.
+        told.extend(_arcs(net.places, hung))
     return tuple(sorted(set(told)))
 
 
