@@ -1,5 +1,6 @@
 """What several tests use: nets, wrong values, and a second way of counting."""
 
+import functools
 import itertools
 import random
 
@@ -132,6 +133,16 @@ def count_cut(net, lot):
     return sum(1 for tie in tie_list(net) if len(set(tie) & set(lot)) == 1)
 
 
+def count_inside(net, lot):
+    """Count the ties inside a lot one by one."""
+    return sum(1 for tie in tie_list(net) if set(tie) <= set(lot))
+
+
+def count_across(net, parting):
+    """Count the ties across a parting one by one."""
+    return sum(1 for one, other in tie_list(net) if not any(one in part and other in part for part in parting))
+
+
 def count_pieces(net):
     """Find the pieces by walking along ties."""
     left, pieces = set(net.places), []
@@ -145,13 +156,114 @@ def count_pieces(net):
     return tuple(sorted(pieces))
 
 
+@functools.lru_cache(maxsize=None)
 def all_partings_of(places):
-    """Find all partings by giving each place the number of a part."""
+    """Find all partings by giving each place the number of a part, at most how many places stand ahead of it."""
     found = set()
-    for numbers in itertools.product(range(len(places)), repeat=len(places)):
+    for numbers in itertools.product(*[range(at + 1) for at in range(len(places))]):
         parts = [tuple(p for p, k in zip(places, numbers) if k == number) for number in set(numbers)]
         found.add(tuple(sorted(parts)))
-    return sorted(found)
+    return tuple(sorted(found))
+
+
+def is_plain_lot(net, value):
+    """Judge a lot, which may be empty or have all places, by a look at the types of all that is in it."""
+    if type(value) is not tuple or not all(type(place) is str and place in net.places for place in value):
+        return False
+    return list(value) == sorted(set(value))
+
+
+def is_plain_parting(net, value):
+    if type(value) is not tuple or not all(is_plain_lot(net, part) for part in value):
+        return False
+    return () not in value and list(value) == sorted(value) and sorted(sum(value, ())) == list(net.places)
+
+
+def is_plain_forest(net, value):
+    """Judge a forest by putting its pairs in one after another, none within what hangs together already."""
+    if type(value) is not tuple or not all(is_plain_lot(net, pair) and len(pair) == 2 for pair in value):
+        return False
+    hanging = {place: {place} for place in net.places}
+    for one, other in value:
+        if (one, other) not in net.ties or other in hanging[one]:
+            return False
+        both = hanging[one] | hanging[other]
+        hanging.update({place: both for place in both})
+    return list(value) == sorted(value)
+
+
+def is_plain_tree(net, value):
+    return is_plain_forest(net, value) and len(value) == len(net.places) - 1
+
+
+def are_plain_forests(net, value, many=None, times=1):
+    """Judge a tuple of forests, so many if that is told, that share no tie of a net with each tie so often."""
+    if type(value) is not tuple or not all(is_plain_forest(net, forest) for forest in value):
+        return False
+    left = tie_list(net) * times
+    for forest in value:
+        for pair in forest:
+            if pair not in left:
+                return False
+            left.remove(pair)
+    return many is None or len(value) == many
+
+
+def is_labelled(value, word):
+    """Tell whether a value is a pair of a word and something else."""
+    return type(value) is tuple and len(value) == 2 and type(value[0]) is str and value[0] == word
+
+
+def is_two(value):
+    return type(value) is tuple and len(value) == 2
+
+
+def count_numbers(value):
+    """Tell whether a dict has only integers of at least 1 as its values."""
+    return all(type(many) is int and many >= 1 for many in value.values())
+
+
+def changed_values(value):
+    """Yield values with one thing changed, at any depth; some can be equal to the first one, or right all the same."""
+    if isinstance(value, tuple):
+        yield from (list(value), value[1:], value[:-1], value[::-1], value[:1] + value, value + ((),), value + (None,))
+        for at, item in enumerate(value):
+            yield value[:at] + value[at + 1:]
+            yield value[:at] + (item,) + value[at:]
+            for other in changed_values(item):
+                yield value[:at] + (other,) + value[at + 1:]
+    elif isinstance(value, dict):
+        yield from (list(value.items()), tuple(value), {**value, "q": 1}, {**value, ("a", "q"): 1}, {**value, None: 1})
+        for key in value:
+            less = {other: value[other] for other in value if other != key}
+            yield less
+            for many in changed_values(value[key]):
+                yield {**value, key: many}
+            for other in changed_values(key):
+                if is_hashed(other):
+                    yield {**less, other: value[key]}
+    elif isinstance(value, int):
+        yield from (value + 1, value - 1, -value, str(value), None, (value,), HUGE, bool(value))
+    elif isinstance(value, str):
+        yield from ("q", "a", "b", "c", "d", value + "a", "", None, 1, (value,), [value])
+
+
+def is_hashed(value):
+    try:
+        hash(value)
+    except TypeError:
+        return False
+    return True
+
+
+def turned_ways(net):
+    """Yield all streets of a net: all ways of turning its ties."""
+    rows = list(net.ties.items())
+    for counts in itertools.product(*[range(many + 1) for _, many in rows]):
+        turned = {}
+        for ((one, other), many), back in zip(rows, counts):
+            turned.update({(one, other): many - back, (other, one): back})
+        yield {step: many for step, many in sorted(turned.items()) if many}
 
 
 def small_nets():

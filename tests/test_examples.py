@@ -5,6 +5,9 @@ import unittest
 
 from holdsfast.base import lots, nets, words
 from holdsfast.least import cuts, webs
+from holdsfast.odd import cuts as odd_cuts
+from holdsfast.odd import joins
+from holdsfast.trees import covers, packed
 from holdsfast.ways import numbers, trees
 
 NETS = """
@@ -60,7 +63,39 @@ WEBS = """
 [True, True, (('a', 'b', 'z'), ('c',))]
 """
 
-MODULES = (words, nets, lots, numbers, trees, cuts, webs)
+JOINS = """
+>>> [join_number(RING, ("a", "c")), join_number(FULL, FULL.places), least_join(PATH, ("b", "c")), is_join(RING, ("a", "c"), {("a", "b"): 1, ("b", "c"): 1}), is_join(RING, ("a", "c"), {("a", "b"): 1}), join_paper(RING, ())]
+[2, 2, {('b', 'c'): 1}, True, False, ({}, ())]
+>>> [is_odd_row(RING, ("a", "c"), (("a",), ("a",), ("c",), ("c",))), is_join_paper(FULL, FULL.places, ({("a", "b"): 1, ("c", "d"): 1}, (("a",), ("b",), ("c",), ("d",))))]
+[True, True]
+>>> both_joins(RING, (("a", "c"), ("b", "c")), {("a", "b"): 1, ("b", "c"): 1}, {("b", "c"): 1})
+{('a', 'b'): 1}
+"""
+
+ODD_CUTS = """
+>>> [odd_cut(HUB, ("a", "c")), odd_lots(HUB, ("a", "c")), odd_cut(FULL, FULL.places), is_odd_paper(HUB, ("a", "b"), (("b",), (("a", "b"),)))]
+[1, (('a', 'b', 'z'), ('c',)), 3, True]
+>>> [tour_length(HUB), tour_length(RING), is_tour(PATH, ("a", "b", "c", "b", "a")), is_tour(PATH, ("a", "b", "c")), is_tour_paper(PATH, (("a", "b", "c", "b", "a"), (("c",), ("c",))))]
+[7, 4, True, False, True]
+"""
+
+PACKED = """
+>>> [most_trees(FULL), most_trees(RING), most_trees(Net(("a",))), is_tree(RING, (("a", "b"), ("b", "c"), ("c", "d"))), is_forest(RING, (("a", "b"),)), trees_paper(FULL, 2)[0], trees_paper(RING, 2)[0]]
+[2, 1, None, True, True, 'trees', 'parting']
+>>> [is_trees_paper(FULL, 2, ("trees", ((("a", "b"), ("b", "c"), ("c", "d")), (("a", "c"), ("a", "d"), ("b", "d"))))), is_trees_paper(RING, 2, ("parting", (("a",), ("b",), ("c",), ("d",)))), most_forest_ties(PATH, 2), do_share(PATH, ((("a", "b"),), (("a", "b"),)))]
+[True, True, 3, False]
+>>> is_forests_paper(PATH, 2, (((("a", "b"), ("b", "c")), (("a", "b"),)), (("a", "b"), ("c",))))
+True
+"""
+
+COVERS = """
+>>> [fewest_forests(FULL), fewest_forests(RING), fewest_forests(PATH), crowds_for(PATH, 1), crowds_for(RING, 1), cover_paper(RING, 2)[0]]
+[2, 2, 2, (('a', 'b'), ('a', 'b', 'c')), (('a', 'b', 'c', 'd'),), 'cover']
+>>> [is_cover(PATH, ((("a", "b"), ("b", "c")), (("a", "b"),))), is_cover(PATH, ((("a", "b"),), (("a", "b"),))), is_cover_paper(PATH, 1, ("crowd", ("a", "b")))]
+[True, False, True]
+"""
+
+MODULES = (words, nets, lots, numbers, trees, cuts, webs, joins, odd_cuts, packed, covers)
 
 
 class TestExamples(unittest.TestCase):
@@ -93,6 +128,18 @@ class TestExamples(unittest.TestCase):
 
     def test_webs(self):
         self.check(WEBS)
+
+    def test_joins(self):
+        self.check(JOINS)
+
+    def test_odd_cuts(self):
+        self.check(ODD_CUTS)
+
+    def test_packed(self):
+        self.check(PACKED)
+
+    def test_covers(self):
+        self.check(COVERS)
 
 
 if __name__ == "__main__":

@@ -37,7 +37,31 @@ MODULES = {
         "ring_web": "net", "is_ring_web": "net, value", "is_web": "net, value", "web_lots": "net, web",
         "web_leaves": "net, web", "node_of": "net, web, place",
     },
+    "holdsfast.odd.joins": {
+        "join_number": "net, chosen", "least_join": "net, chosen", "is_join": "net, chosen, value",
+        "is_odd_row": "net, chosen, value", "join_paper": "net, chosen", "is_join_paper": "net, chosen, value",
+        "both_joins": "net, chosen, join, second",
+    },
+    "holdsfast.odd.cuts": {
+        "odd_cut": "net, chosen", "odd_lots": "net, chosen", "odd_paper": "net, chosen",
+        "is_odd_paper": "net, chosen, value", "tour_length": "net", "shortest_tour": "net", "is_tour": "net, value",
+        "tour_paper": "net", "is_tour_paper": "net, value",
+    },
+    "holdsfast.trees.packed": {
+        "is_forest": "net, value", "is_tree": "net, value", "do_share": "net, forests", "most_trees": "net",
+        "trees_paper": "net, many", "is_trees_paper": "net, many, value", "most_forest_ties": "net, many",
+        "forests_paper": "net, many", "is_forests_paper": "net, many, value",
+    },
+    "holdsfast.trees.covers": {
+        "fewest_forests": "net", "cover_paper": "net, many", "is_cover_paper": "net, many, value",
+        "is_cover": "net, value", "crowds_for": "net, many",
+    },
 }
+CONSTANTS = (
+    ("holdsfast.base.words", "MAX_LETTERS", 8), ("holdsfast.base.nets", "MAX_PLACES", 7),
+    ("holdsfast.base.nets", "MAX_TIES", 30), ("holdsfast.base.nets", "MAX_MADE", 60),
+    ("holdsfast.trees.packed", "MAX_TREES", 60),
+)
 PLAIN_ERRORS = ("NetError", "InvalidNet", "InvalidLot", "InvalidParting", "InvalidOperation")
 METHODS = {
     "full": "places, *, many=1", "ring": "places, *, many=1", "tied": "one, other", "near": "place",
@@ -56,6 +80,10 @@ class TestInterface(unittest.TestCase):
                 found = vars(held)[name]
                 self.assertEqual(found.__module__, module, name)
                 self.assertEqual(str(inspect.signature(found)), f"({arguments})", name)
+
+    def test_constants(self):
+        for module, name, value in CONSTANTS:
+            self.assertEqual(vars(importlib.import_module(module))[name], value)
 
     def test_errors(self):
         held = importlib.import_module("holdsfast.errors")

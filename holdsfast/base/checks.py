@@ -22,3 +22,9 @@ def check_many(many):
     """Refuse what is no integer of at least 1."""
     if not is_integer(many) or many < 1:
         raise InvalidNumber(many)
+
+
+def check_number(many, least, most):
+    """Refuse what is no integer between two bounds, which are let."""
+    if not is_integer(many) or not least <= many <= most:
+        raise InvalidNumber(many)

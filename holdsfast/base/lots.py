@@ -55,8 +55,17 @@ def inside(net, lot):
     check_net(net)
     if not is_lot_of(net.places, lot):
         raise InvalidLot("this is no lot of the net")
-    ties = net.ties
+    return _inside_of(net.ties, lot)
+
+
+def _inside_of(ties, lot):
     return sum([ties[(one, other)] for one, other in ties if one in lot and other in lot])
+
+
+def inside_table(net):
+    """Return the dict from all lots with a place, one of all places too, to the numbers of ties inside."""
+    ties = net.ties
+    return {lot: _inside_of(ties, lot) for lot in all_lots(net.places) if lot}
 
 
 def cut_table(net):
@@ -94,6 +103,15 @@ def across(net, parting):
     ties = net.ties
     # Each tie across leaves two parts, so it is in two of their cuts.
     return sum([_cut_of(ties, part) for part in parting]) // 2
+
+
+def across_table(net):
+    """Return the dict from all partings, ascending, to the numbers of ties across."""
+    held = inside_table(net)
+    return {
+        parting: net.size - sum([held[part] for part in parting])
+        for parting in all_partings(net.places)
+    }
 
 
 def is_net_forest(net, value):

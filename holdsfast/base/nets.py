@@ -16,6 +16,13 @@ def check_net(net):
         raise InvalidNet("this is no net")
 
 
+def check_several(net):
+    """Refuse what is no net, and a net of one place."""
+    check_net(net)
+    if len(net) == 1:
+        raise InvalidOperation("a net of one place falls in no parts")
+
+
 class Net:
     """A net: one to seven places, and ties, each between two different places."""
 

@@ -1,20 +1,19 @@
 """Least cuts of a net, and the lots that have them."""
 
 from holdsfast.base.lots import cut, cut_table, do_cross, is_lot
-from holdsfast.base.nets import check_net
-from holdsfast.errors import InvalidOperation
+from holdsfast.base.nets import check_several
 from holdsfast.ways.trees import cut_tree, is_cut_tree
 
 
 def least_cut(net):
     """Return the least cut of a lot that counts."""
-    _check_two_or_more(net)
+    check_several(net)
     return min(list(cut_table(net).values()))
 
 
 def least_lots(net):
     """Return the ascending tuple of the least lots that have the first place."""
-    _check_two_or_more(net)
+    check_several(net)
     return tuple([lot for lot in _all_least(net) if net.places[0] in lot])
 
 
@@ -25,7 +24,7 @@ def is_least(net, lot):
 
 def leaves(net):
     """Return the ascending tuple of the least lots that have no lesser least lot within."""
-    _check_two_or_more(net)
+    check_several(net)
     least = _all_least(net)
     return tuple([lot for lot in least if not any([is_lesser(other, lot) for other in least])])
 
@@ -43,7 +42,7 @@ def least_paper(net):
 
 def is_least_paper(net, value):
     """Tell whether a value is such a pair."""
-    _check_two_or_more(net)
+    check_several(net)
     if not isinstance(value, tuple) or len(value) != 2:
         return False
     lot, tree = value
@@ -55,12 +54,6 @@ def is_least_paper(net, value):
 def is_lesser(one, other):
     """Tell whether a lot is within another one, and not equal."""
     return len(one) < len(other) and all([place in other for place in one])
-
-
-def _check_two_or_more(net):
-    check_net(net)
-    if len(net) == 1:
-        raise InvalidOperation("a net of one place has no cuts")
 
 
 def _all_least(net):

@@ -8,36 +8,36 @@ def ways_through(places, room, one, other):
     """
     left = {step: room[step] for step in room}
     found = 0
-    ahead = _searched(places, left, one)
+    ahead = reached(places, left, one)
     while other in ahead:
-        _take(left, ahead, other)
+        turn_way(left, ahead, other)
         found += 1
-        ahead = _searched(places, left, one)
+        ahead = reached(places, left, one)
     used = {step: room[step] - left[step] for step in room}
     return tuple([_peeled(places, used, one, other) for _ in range(found)])
 
 
-def _searched(places, left, one):
-    """Return the dict from the places that can still be reached to the places ahead of them."""
+def reached(places, room, one):
+    """Return the dict from the places that one comes to where there is room to the places ahead of them."""
     ahead = {one: None}
     queue = [one]
     at = 0
     while at < len(queue):
         for place in places:
-            if place not in ahead and left.get((queue[at], place), 0) > 0:
+            if place not in ahead and room.get((queue[at], place), 0) > 0:
                 ahead[place] = queue[at]
                 queue.append(place)
         at += 1
     return ahead
 
 
-def _take(left, ahead, other):
-    # Room is given to the way back, so that a later way can undo a step.
+def turn_way(room, ahead, other):
+    """Take the room of a reached way, and give it to the way back, so that a later way can undo a step."""
     place = other
     while ahead[place] is not None:
         back = ahead[place]
-        left[(back, place)] -= 1
-        left[(place, back)] = left.get((place, back), 0) + 1
+        room[(back, place)] -= 1
+        room[(place, back)] = room.get((place, back), 0) + 1
         place = back
 
 

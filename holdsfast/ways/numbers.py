@@ -76,7 +76,7 @@ def _cuts_between(net, one, other):
 
 def _are_ways(net, one, other, value):
     """Tell whether a value is a tuple of ways between two places that share no tie."""
-    if not isinstance(value, tuple) or not all([_is_way(net, one, other, way) for way in value]):
+    if not isinstance(value, tuple) or not all([is_row_between(net, one, other, way) for way in value]):
         return False
     used = {}
     for way in value:
@@ -87,7 +87,7 @@ def _are_ways(net, one, other, value):
     return all([used[pair] <= ties.get(pair, 0) for pair in used])
 
 
-def _is_way(net, one, other, value):
+def is_row_between(net, one, other, value):
     """Tell whether a value goes from the one place to the other, none twice; ties are not looked at."""
     if not isinstance(value, tuple) or not all([place in net for place in value]):
         return False

@@ -1,0 +1,1 @@
+"""Chosen places: joins, odd cuts and tours."""

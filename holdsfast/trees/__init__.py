@@ -1,0 +1,1 @@
+"""Trees and forests that share no tie."""
