@@ -7,8 +7,9 @@ from holdsfast.base import lots, nets, words
 from holdsfast.least import cuts, webs
 from holdsfast.odd import cuts as odd_cuts
 from holdsfast.odd import joins
-from holdsfast.trees import covers, packed
-from holdsfast.ways import numbers, trees
+from holdsfast.part import crowds, strength
+from holdsfast.trees import covers, packed, turned
+from holdsfast.ways import numbers, streets, trees
 
 NETS = """
 >>> RING = Net(("a", "b", "c", "d"), {("a", "b"): 1, ("a", "d"): 1, ("b", "c"): 1, ("c", "d"): 1})
@@ -95,17 +96,53 @@ COVERS = """
 [True, False, True]
 """
 
-MODULES = (words, nets, lots, numbers, trees, cuts, webs, joins, odd_cuts, packed, covers)
+TURNED = """
+>>> turn = {("a", "b"): 1, ("b", "a"): 1, ("c", "b"): 1}
+>>> [is_streets(PATH, turn), coming_in(PATH, turn), entering(PATH, turn, ("a", "b")), least_in(PATH), least_in(FULL), is_told_paper(PATH, {"a": 1, "b": 1, "c": 0}, ("crowd", ("a", "b", "c")))]
+[True, {'a': 1, 'b': 2, 'c': 0}, 1, 1, 2, True]
+>>> [is_told_paper(PATH, {"a": 1, "b": 2, "c": 0}, ("streets", turn), just=True), told_paper(PATH, {"a": 1, "b": 2, "c": 9}, just=True), coming_in(PATH, reversed_way(PATH, turn, "c", "b"))]
+[True, ('spare',), {'a': 1, 'b': 1, 'c': 1}]
+"""
+
+STRENGTH = """
+>>> [strength(FULL), strength(RING), strength(PATH), strength(Net(("a",))), weakest(PATH), critical_levels(PATH), critical_levels(HUB), critical_levels(RING)]
+[(2, 1), (4, 3), (1, 1), None, (('a', 'b'), ('c',)), ((1, 1), (2, 1)), ((1, 1), (2, 1)), ((4, 3),)]
+>>> [finest_at(PATH, (1, 1)), coarsest_at(PATH, (1, 1)), finest_at(PATH, (3, 2)), chain(PATH), is_strength_paper(PATH, ((("a", "b"), ("c",)), ((("a", "b"), ("b", "c")),)))]
+[(('a', 'b'), ('c',)), (('a', 'b', 'c'),), (('a', 'b'), ('c',)), ((('a', 'b', 'c'),), (('a', 'b'), ('c',)), (('a',), ('b',), ('c',))), True]
+"""
+
+CROWDS = """
+>>> [crowding(FULL), crowding(RING), crowding(PATH), crowding(HUB), crowded_lots(HUB), greatest_crowds(HUB), greatest_crowds(PATH)]
+[(2, 1), (4, 3), (2, 1), (2, 1), (('a', 'b', 'z'), ('a', 'z')), (('a', 'b', 'z'),), (('a', 'b'),)]
+>>> [layers(PATH), is_crowding_paper(PATH, (("a", "b"), ((("a", "b"), ("b", "c")), (("a", "b"),)))), crowding(Net(("a", "b")))]
+[{('a', 'b'): (2, 1), ('b', 'c'): (1, 1)}, True, (0, 1)]
+"""
+
+STREETS = """
+>>> round_way = {("a", "b"): 1, ("b", "c"): 1, ("c", "d"): 1, ("d", "a"): 1}
+>>> [least_entering(RING, round_way), one_way_number(RING, round_way, "a", "d"), most_folds(RING), most_folds(FULL), most_folds(PATH), most_folds(Net(("a",))), least_entering(RING, even_streets(RING))]
+[1, 1, 1, 1, 0, None, 1]
+>>> [is_folds_paper(PATH, 1, ("lot", ("c",))), folds_paper(RING, 1)[0], is_one_way_paper(RING, round_way, "d", "b", ((("d", "a", "b"),), ("b",))), turned_about(PATH, {("a", "b"): 2, ("c", "b"): 1})]
+[True, 'streets', True, {('b', 'a'): 2, ('b', 'c'): 1}]
+>>> even_streets(HUB)
+raises Refused
+"""
+
+MODULES = (
+    words, nets, lots, numbers, trees, cuts, webs, joins, odd_cuts, packed, covers, turned, strength, crowds, streets)
+# The document shows an error by its name alone, where Python shows where it was raised.
+RAISES = "raises "
 
 
 class TestExamples(unittest.TestCase):
     def check(self, text):
         """Run the examples of a section; the nets of the document are there for all of them."""
         known = {name: vars(module)[name] for module in MODULES for name in vars(module) if name[0] != "_"}
-        test = doctest.DocTestParser().get_doctest(NETS + text, known, "document", None, 0)
+        text = (NETS + text).replace("\n" + RAISES, "\nTraceback (most recent call last):\n  ...\n")
+        test = doctest.DocTestParser().get_doctest(text, known, "document", None, 0)
         self.assertGreater(len(test.examples), 4)
         lines = []
-        found = doctest.DocTestRunner().run(test, out=lines.append)
+        found = doctest.DocTestRunner(optionflags=doctest.IGNORE_EXCEPTION_DETAIL).run(test, out=lines.append)
         self.assertEqual(found.failed, 0, "".join(lines))
 
     def test_words(self):
@@ -140,6 +177,18 @@ class TestExamples(unittest.TestCase):
 
     def test_covers(self):
         self.check(COVERS)
+
+    def test_turned(self):
+        self.check(TURNED)
+
+    def test_strength(self):
+        self.check(STRENGTH)
+
+    def test_crowds(self):
+        self.check(CROWDS)
+
+    def test_streets(self):
+        self.check(STREETS)
 
 
 if __name__ == "__main__":

@@ -56,11 +56,30 @@ MODULES = {
         "fewest_forests": "net", "cover_paper": "net, many", "is_cover_paper": "net, many, value",
         "is_cover": "net, value", "crowds_for": "net, many",
     },
+    "holdsfast.trees.turned": {
+        "is_streets": "net, value", "coming_in": "net, streets", "entering": "net, streets, lot",
+        "told_paper": "net, told, *, just=False", "is_told_paper": "net, told, value, *, just=False",
+        "least_in": "net", "reversed_way": "net, streets, one, other",
+    },
+    "holdsfast.part.strength": {
+        "strength": "net", "weakest": "net", "strength_paper": "net", "is_strength_paper": "net, value",
+        "finest_at": "net, level", "coarsest_at": "net, level", "critical_levels": "net", "chain": "net",
+    },
+    "holdsfast.part.crowds": {
+        "crowding": "net", "crowded_lots": "net", "greatest_crowds": "net", "crowding_paper": "net",
+        "is_crowding_paper": "net, value", "layers": "net",
+    },
+    "holdsfast.ways.streets": {
+        "one_way_number": "net, streets, one, other", "one_way_paper": "net, streets, one, other",
+        "is_one_way_paper": "net, streets, one, other, value", "least_entering": "net, streets", "most_folds": "net",
+        "folds_paper": "net, many", "is_folds_paper": "net, many, value", "even_streets": "net",
+        "turned_about": "net, streets",
+    },
 }
 CONSTANTS = (
     ("holdsfast.base.words", "MAX_LETTERS", 8), ("holdsfast.base.nets", "MAX_PLACES", 7),
     ("holdsfast.base.nets", "MAX_TIES", 30), ("holdsfast.base.nets", "MAX_MADE", 60),
-    ("holdsfast.trees.packed", "MAX_TREES", 60),
+    ("holdsfast.trees.packed", "MAX_TREES", 60), ("holdsfast.trees.turned", "MAX_TOLD", 60),
 )
 PLAIN_ERRORS = ("NetError", "InvalidNet", "InvalidLot", "InvalidParting", "InvalidOperation")
 METHODS = {

@@ -23,6 +23,11 @@ def are_apart(forests, ties):
     return all([used[pair] <= ties.get(pair, 0) for pair in used])
 
 
+def so_often(ties, times):
+    """Return the dict from the pairs of ties to so many times their numbers."""
+    return {pair: times * ties[pair] for pair in ties}
+
+
 def packed_forests(places, ties, many):
     """Return a tuple of so many forests that share no tie and together have as many of the ties as can be.
 

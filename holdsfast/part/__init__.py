@@ -1,0 +1,1 @@
+"""Where a net is weakest, and where it is most crowded."""
