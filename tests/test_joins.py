@@ -134,6 +134,8 @@ class TestJoins(unittest.TestCase):
                 self.assertIs(is_join_paper(net, chosen, value), is_right_paper(net, chosen, value), value)
         self.assertIs(is_join(PATH, ("b", "c"), {("b", "c"): True}), False)
         self.assertIs(is_join(PATH, ("b", "c"), {("c", "b"): 1}), False)
+        self.assertIs(is_join(PATH, ("a", "c"), {("a", "c"): 1}), False)
+        self.assertIs(is_join(RING, RING.places, {("a", "c"): 1, ("b", "d"): 1}), False)
 
 
 class TestOddRows(unittest.TestCase):

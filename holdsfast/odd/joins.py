@@ -1,7 +1,7 @@
 """Joins for chosen places, and the odd rows that bar lesser ones."""
 
 from holdsfast.base.nets import check_net
-from holdsfast.base.parts import gathered, is_lot_of, is_pair_of
+from holdsfast.base.parts import gathered, is_lot_of
 from holdsfast.base.words import is_integer
 from holdsfast.errors import InvalidOperation, Refused
 
@@ -50,10 +50,10 @@ def is_join(net, chosen, value):
 
 
 def _is_join_for(net, chosen, value):
-    if not isinstance(value, dict) or not all([is_pair_of(net.places, pair) for pair in value]):
-        return False
     ties = net.ties
-    if not all([is_integer(value[pair]) and 1 <= value[pair] <= ties.get(pair, 0) for pair in value]):
+    if not isinstance(value, dict) or not all([pair in ties and is_integer(value[pair]) for pair in value]):
+        return False
+    if not all([1 <= value[pair] <= ties[pair] for pair in value]):
         return False
     many = {place: sum([value[pair] for pair in value if place in pair]) for place in net.places}
     return tuple([place for place in net.places if many[place] % 2 == 1]) == chosen

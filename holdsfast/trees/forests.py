@@ -18,9 +18,9 @@ def times_used(forests):
 
 
 def are_apart(forests, ties):
-    """Tell whether each pair stands in at most as many of the forests as there are ties."""
+    """Tell whether each pair of forests of a net stands in at most as many of them as there are ties."""
     used = times_used(forests)
-    return all([used[pair] <= ties.get(pair, 0) for pair in used])
+    return all([used[pair] <= ties[pair] for pair in used])
 
 
 def so_often(ties, times):

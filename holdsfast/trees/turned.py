@@ -93,11 +93,9 @@ def _tidy(streets):
 def is_told_paper(net, told, value, *, just=False):
     """Tell whether a value is one of these."""
     _check_told(net, told, just)
-    if not isinstance(value, tuple) or not value:
-        return False
-    if len(value) == 1:
-        return value == ("spare",) and just and sum(list(told.values())) > net.size
-    if len(value) != 2:
+    if value == ("spare",):
+        return just and sum(list(told.values())) > net.size
+    if not isinstance(value, tuple) or len(value) != 2:
         return False
     word, shown = value
     if word == "streets":
