@@ -138,6 +138,13 @@ def count_inside(net, lot):
     return sum(1 for tie in tie_list(net) if set(tie) <= set(lot))
 
 
+def find_numbers(net):
+    """Find the numbers of all pairs as the least cuts of the lots with one of both alone."""
+    cuts = {lot: count_cut(net, lot) for lot in counting_lots(net) if net.places[0] in lot}
+    return {(one, other): min(cuts[lot] for lot in cuts if (one in lot) != (other in lot))
+            for one, other in itertools.combinations(net.places, 2)}
+
+
 def count_across(net, parting):
     """Count the ties across a parting one by one."""
     return sum(1 for one, other in tie_list(net) if not any(one in part and other in part for part in parting))
@@ -171,6 +178,21 @@ def is_plain_lot(net, value):
     if type(value) is not tuple or not all(type(place) is str and place in net.places for place in value):
         return False
     return list(value) == sorted(set(value))
+
+
+def is_plain_tree_form(places, value):
+    """Judge an ascending tuple of triples that joins places without a circle, by a look at all types."""
+    if type(value) is not tuple or not all(type(triple) is tuple and len(triple) == 3 for triple in value):
+        return False
+    hanging = {place: {place} for place in places}
+    for one, other, many in value:
+        if type(one) is not str or type(other) is not str or type(many) is not int:
+            return False
+        if one not in places or other not in places or not one < other or other in hanging[one]:
+            return False
+        both = hanging[one] | hanging[other]
+        hanging.update({place: both for place in both})
+    return list(value) == sorted(value) and len(value) == len(places) - 1
 
 
 def is_plain_parting(net, value):
@@ -264,6 +286,19 @@ def turned_ways(net):
         for ((one, other), many), back in zip(rows, counts):
             turned.update({(one, other): many - back, (other, one): back})
         yield {step: many for step, many in sorted(turned.items()) if many}
+
+
+def some_streets(net, many, seed):
+    """Streets of a net, turned as a seed tells."""
+    numbers = random.Random(seed)
+    rows = []
+    for _ in range(many):
+        streets = {}
+        for tie in tie_list(net):
+            step = tie[::numbers.choice((1, -1))]
+            streets[step] = streets.get(step, 0) + 1
+        rows.append(streets)
+    return rows
 
 
 def small_nets():

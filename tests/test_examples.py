@@ -5,11 +5,13 @@ import unittest
 
 from holdsfast.base import lots, nets, words
 from holdsfast.least import cuts, webs
+from holdsfast.more import cuts as more_cuts
 from holdsfast.odd import cuts as odd_cuts
 from holdsfast.odd import joins
 from holdsfast.part import crowds, strength
+from holdsfast.past import carried, pairs
 from holdsfast.trees import covers, packed, turned
-from holdsfast.ways import numbers, streets, trees
+from holdsfast.ways import numbers, rooted, streets, trees
 
 NETS = """
 >>> RING = Net(("a", "b", "c", "d"), {("a", "b"): 1, ("a", "d"): 1, ("b", "c"): 1, ("c", "d"): 1})
@@ -128,8 +130,44 @@ STREETS = """
 raises Refused
 """
 
+ROOTED = """
+>>> [most_rooted(RING, round_way, "a"), rooted_paper(RING, round_way, ("a",)), rooted_paper(RING, round_way, ("a", "b"))[0], is_rooted_paper(RING, round_way, ("a", "b"), ("lot", ("c",)))]
+[1, ('trees', ({'b': 'a', 'c': 'b', 'd': 'c'},)), 'lot', True]
+>>> both_ways = {("a", "b"): 1, ("b", "a"): 1, ("b", "c"): 1}
+>>> [is_rooted_tree(PATH, both_ways, "a", {"b": "a", "c": "b"}), is_rooted_tree(PATH, both_ways, "c", {"a": "b", "b": "c"}), most_rooted(PATH, both_ways, "c"), depths(PATH, both_ways, "b", {"a": "b", "c": "b"}), rooted_paper(PATH, both_ways, ())]
+[True, False, 0, {'a': 1, 'b': 0, 'c': 1}, ('trees', ())]
+"""
+
+PAST = """
+>>> [pairs_at(HUB, "z"), keeping_pairs(HUB, "z"), led_past(HUB, "z", ("b", "c")).ties, past_paper(HUB, "z", ("a", "c"))[0], is_past_paper(HUB, "z", ("b", "c"), ("loses", "a", "b", ("a", "z")))]
+[(('a', 'a'), ('a', 'b'), ('a', 'c'), ('b', 'c')), (('a', 'b'), ('a', 'c')), {('a', 'b'): 1, ('a', 'z'): 2, ('b', 'c'): 1}, 'keeps', True]
+>>> [is_whole_row(HUB, "z", (("a", "b"), ("a", "c"))), is_whole_row(HUB, "z", (("a", "a"), ("b", "c"))), whole_row(FULL, "a"), whole_row(RING, "b"), pinched(PATH, "z", (("a", "b"), ("c", "c"))).ties]
+[True, False, None, (('a', 'c'),), {('a', 'b'): 1, ('a', 'z'): 1, ('b', 'c'): 1, ('b', 'z'): 1, ('c', 'z'): 2}]
+"""
+
+CARRIED = """
+>>> row = (("a", "b"), ("a", "c"))
+>>> [carried_numbers(HUB, "z"), carried_net(HUB, "z", row).ties, is_carried(HUB, "z", Net(("a", "b", "c"), {("a", "b"): 2, ("b", "c"): 1})), is_carried(HUB, "z", PATH.untied("a", "b"))]
+[{('a', 'b'): 2, ('a', 'c'): 1, ('b', 'c'): 1}, {('a', 'b'): 2, ('a', 'c'): 1}, True, False]
+>>> [is_carried_tree(HUB, "z", (("a", "b", 2), ("a", "c", 1))), is_carried_tree(HUB, "z", (("a", "b", 2), ("a", "c", 2))), taken_back(RING, "b", (("a", "c"),), {("a", "c"): 1, ("c", "d"): 1, ("d", "a"): 1}) == round_way]
+[True, False, True]
+>>> thrice = Net(("a", "b", "c", "z"), {("a", "z"): 2, ("b", "z"): 2, ("c", "z"): 2})
+>>> [most_trees(thrice), most_trees(carried_net(thrice, "z", (("a", "b"), ("a", "c"), ("b", "c"))))]
+[2, 1]
+"""
+
+MORE_CUTS = """
+>>> [fewest_raising(HUB), fewest_raising(RING), fewest_raising(FULL), raising(Net(("a", "b"), {("a", "b"): 3})), is_raising(RING, (("a", "c"), ("b", "d"))), is_raising(RING, (("a", "b"), ("c", "d"))), is_raising(PATH, (("a", "c"),))]
+[1, 2, 2, (('a', 'b'),), True, False, True]
+>>> [is_raising_paper(RING, ((("a", "c"), ("b", "d")), leaves(RING))), is_raising_paper(PATH, ((("b", "c"),), (("a", "b"), ("c",)))), with_ties(PATH, (("a", "c"),))[("c",)]]
+[True, True, 2]
+"""
+
 MODULES = (
-    words, nets, lots, numbers, trees, cuts, webs, joins, odd_cuts, packed, covers, turned, strength, crowds, streets)
+    words, nets, lots, numbers, trees, cuts, webs, joins, odd_cuts, packed, covers, turned, strength, crowds, streets,
+    rooted, pairs, carried, more_cuts)
+# "The examples use the values of earlier examples."
+ROUND_WAY = STREETS[:STREETS.index("\n", 1)]
 # The document shows an error by its name alone, where Python shows where it was raised.
 RAISES = "raises "
 
@@ -189,6 +227,18 @@ class TestExamples(unittest.TestCase):
 
     def test_streets(self):
         self.check(STREETS)
+
+    def test_rooted(self):
+        self.check(ROUND_WAY + ROOTED)
+
+    def test_past(self):
+        self.check(PAST)
+
+    def test_carried(self):
+        self.check(ROUND_WAY + CARRIED)
+
+    def test_more_cuts(self):
+        self.check(MORE_CUTS)
 
 
 if __name__ == "__main__":

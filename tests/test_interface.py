@@ -75,11 +75,31 @@ MODULES = {
         "folds_paper": "net, many", "is_folds_paper": "net, many, value", "even_streets": "net",
         "turned_about": "net, streets",
     },
+    "holdsfast.ways.rooted": {
+        "is_rooted_tree": "net, streets, root, value", "most_rooted": "net, streets, root",
+        "rooted_paper": "net, streets, roots", "is_rooted_paper": "net, streets, roots, value",
+        "depths": "net, streets, root, tree",
+    },
+    "holdsfast.past.pairs": {
+        "pairs_at": "net, place", "keeping_pairs": "net, place", "led_past": "net, place, pair",
+        "past_paper": "net, place, pair", "is_past_paper": "net, place, pair, value", "whole_row": "net, place",
+        "is_whole_row": "net, place, value", "pinched": "net, place, pairs",
+    },
+    "holdsfast.past.carried": {
+        "carried_numbers": "net, place", "is_carried": "net, place, value", "carried_net": "net, place, row",
+        "carried_tree": "net, place", "is_carried_tree": "net, place, value", "taken_back": "net, place, row, streets",
+        "is_taken_back": "net, place, row, streets, value",
+    },
+    "holdsfast.more.cuts": {
+        "fewest_raising": "net", "raising": "net", "is_raising": "net, value", "raising_paper": "net",
+        "is_raising_paper": "net, value", "with_ties": "net, ties",
+    },
 }
 CONSTANTS = (
     ("holdsfast.base.words", "MAX_LETTERS", 8), ("holdsfast.base.nets", "MAX_PLACES", 7),
     ("holdsfast.base.nets", "MAX_TIES", 30), ("holdsfast.base.nets", "MAX_MADE", 60),
     ("holdsfast.trees.packed", "MAX_TREES", 60), ("holdsfast.trees.turned", "MAX_TOLD", 60),
+    ("holdsfast.ways.rooted", "MAX_ROOTS", 30),
 )
 PLAIN_ERRORS = ("NetError", "InvalidNet", "InvalidLot", "InvalidParting", "InvalidOperation")
 METHODS = {

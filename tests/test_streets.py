@@ -1,7 +1,6 @@
 """Streets, beside a second way of counting over all ways of turning ties, all ways along streets and all lots."""
 
 import itertools
-import random
 import unittest
 
 from holdsfast.base.nets import Net
@@ -14,7 +13,7 @@ from holdsfast.ways.streets import (
 from tests.helpers import (
     APART, CROWD, EXAMPLES, FULL, HUB, HUGE, ODD_VALUES, PATH, POINT, RING, SEVEN, TWO, Refusals, all_subsets,
     changed_values, count_cut, counting_lots, is_labelled, is_plain_lot, is_two, mixed_nets, raised, same, small_nets,
-    tie_list, turned_ways, wrong_nets,
+    some_streets, turned_ways, wrong_nets,
 )
 from tests.test_turned import TURN, count_entering, is_right_streets
 
@@ -23,19 +22,6 @@ ROUND = {("a", "b"): 1, ("b", "c"): 1, ("c", "d"): 1, ("d", "a"): 1}
 TINY = (TWO, PATH, RING, FULL, HUB, BARE, Net(tuple("abcd"), {("a", "b"): 2, ("c", "d"): 1}),
         Net(("a", "b", "c"), {("a", "b"): 2, ("a", "c"): 2, ("b", "c"): 2}))
 NETS = EXAMPLES + tuple(small_nets()[::3]) + tuple(mixed_nets(40, 140))
-
-
-def some_streets(net, many, seed):
-    """Streets of a net, turned as a seed tells."""
-    numbers = random.Random(seed)
-    rows = []
-    for _ in range(many):
-        streets = {}
-        for tie in tie_list(net):
-            step = tie[::numbers.choice((1, -1))]
-            streets[step] = streets.get(step, 0) + 1
-        rows.append(streets)
-    return rows
 
 
 def is_right_one_way_paper(net, streets, one, other, value):

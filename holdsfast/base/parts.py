@@ -62,3 +62,20 @@ def all_partings(places):
         for row in all_partings(left):
             rows.append((places[:1] + more,) + row)
     return rows
+
+
+def all_pairings(items):
+    """Return the list of all ways to put the items of a tuple, even in number, in pairs, the earlier one first."""
+    if not items:
+        return [()]
+    rows = []
+    for at in range(1, len(items)):
+        rows.extend([((items[0], items[at]),) + row for row in all_pairings(items[1:at] + items[at + 1:])])
+    return rows
+
+
+def are_new_ties(places, value):
+    """Tell whether a value is a tuple of pairs of places in Python's order, equal ones as often as they stand."""
+    if not isinstance(value, tuple) or not all([is_pair_of(places, pair) for pair in value]):
+        return False
+    return list(value) == sorted(value)

@@ -2,7 +2,7 @@
 
 from holdsfast.base.lots import cut, cut_table
 from holdsfast.base.nets import check_net
-from holdsfast.base.parts import is_ascending, is_pair_of, pair_of
+from holdsfast.base.parts import all_pairings, is_ascending, is_pair_of, pair_of
 from holdsfast.errors import InvalidOperation
 from holdsfast.odd.joins import check_chosen, is_odd_lot, is_odd_row, join_number, join_paper, least_join
 from holdsfast.ways.numbers import numbers
@@ -31,18 +31,7 @@ def odd_paper(net, chosen):
     """Return a pair of an odd lot and a pairing whose least number is the cut of the lot."""
     lot = odd_lots(net, chosen)[0]
     told = numbers(net)
-    return (lot, max(_pairings(chosen), key=lambda pairing: min([told[pair] for pair in pairing])))
-
-
-def _pairings(chosen):
-    """Return the list of all pairings of chosen places."""
-    if not chosen:
-        return [()]
-    rows = []
-    for other in chosen[1:]:
-        left = tuple([place for place in chosen[1:] if place != other])
-        rows.extend([((chosen[0], other),) + row for row in _pairings(left)])
-    return rows
+    return (lot, max(all_pairings(chosen), key=lambda pairing: min([told[pair] for pair in pairing])))
 
 
 def is_odd_paper(net, chosen, value):

@@ -73,7 +73,12 @@ def tree_number(net, tree, one, other):
     """Return the least number of the triples between two places."""
     _check_tree(net, tree)
     check_two(net.places, one, other)
-    halves = [_half(net.places, tree, index) for index in range(len(tree))]
+    return least_between(net.places, tree, one, other)
+
+
+def least_between(places, tree, one, other):
+    """Return the least number of the triples between two different places in a tree of such triples."""
+    halves = [_half(places, tree, index) for index in range(len(tree))]
     return min([triple[2] for triple, lot in zip(tree, halves) if (one in lot) != (other in lot)])
 
 

@@ -1,0 +1,1 @@
+"""The fewest new ties that make a net hold better."""

@@ -1,0 +1,1 @@
+"""Ties that are led past a place, and what is carried over to the net without it."""
