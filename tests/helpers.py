@@ -6,6 +6,9 @@ import random
 
 from holdsfast.base.nets import Net
 from holdsfast.errors import InvalidNet
+from holdsfast.play.game import Play
+from holdsfast.text.shell import Shell
+from holdsfast.use.live import Live
 
 RING = Net(("a", "b", "c", "d"), {("a", "b"): 1, ("a", "d"): 1, ("b", "c"): 1, ("c", "d"): 1})
 FULL = Net(
@@ -42,6 +45,7 @@ ODD_VALUES = (
     (1, 2), (0,), (("a",),), (("a",), ("b",)), [["a"], ["b"]], (("a", "b"),), (("a", "b", 1),), (("a", "b"), 1),
     {("a", "b"): 1}, {1: 2}, {None: None}, ((), ()), (((),), ()), ([], []), ({}, {}), DEEP, [[[["a"]]]],
     {"a": {"b": {"c": []}}}, Net(("q",)), (Net(("q",)),), [Net(("q",))], InvalidNet("q"), (InvalidNet(),),
+    Live(Net(("q",))), (Live(Net(("q",))), "a"), Play(Net(("q",))), {"a": Play(Net(("q",)))}, Shell(), [Shell()],
 )
 
 

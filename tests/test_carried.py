@@ -175,7 +175,8 @@ class TestTakenBack(unittest.TestCase):
 
     def test_all_streets_are_judged(self):
         for net, place, row in ((RING, "b", (("a", "c"),)), (HUB, "z", ROW), (LOOPED, "z", (("a", "a"), ("a", "a"))),
-                                (PATH, "a", (("b", "b"),)), (PATH.times(2), "b", (("a", "c"), ("a", "a"), ("a", "c")))):
+                                (THRICE.joined("a", "b"), "z", ROW + (("b", "c"),)), (PATH, "a", (("b", "b"),)),
+                                (PATH.times(2), "b", (("a", "c"), ("a", "a"), ("a", "c")))):
             carried = plain_carried(net, place, row)
             for streets in turned_ways(carried):
                 rows = all_taken_back(place, row, streets)

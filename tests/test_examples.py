@@ -6,11 +6,15 @@ import unittest
 from holdsfast.base import lots, nets, words
 from holdsfast.least import cuts, webs
 from holdsfast.more import cuts as more_cuts
+from holdsfast.more import trees as more_trees
 from holdsfast.odd import cuts as odd_cuts
 from holdsfast.odd import joins
 from holdsfast.part import crowds, strength
 from holdsfast.past import carried, pairs
+from holdsfast.play import game
+from holdsfast.text import shell, texts
 from holdsfast.trees import covers, packed, turned
+from holdsfast.use import live
 from holdsfast.ways import numbers, rooted, streets, trees
 
 NETS = """
@@ -163,9 +167,54 @@ MORE_CUTS = """
 [True, True, 2]
 """
 
+MORE_TREES = """
+>>> [lack(RING, 2), lack(FULL, 2), lack(PATH, 2), lack(Net(("a", "b")), 3), worst_partings(PATH, 2), coarsest_worst(PATH, 2), needed_pairs(PATH, 2), coarsest_worst(FULL, 2)]
+[2, 0, 1, 3, ((('a',), ('b',), ('c',)), (('a', 'b'), ('c',))), (('a', 'b'), ('c',)), (('a', 'c'), ('b', 'c')), None]
+>>> [len(filling(RING, 2)), is_filling(PATH, 2, (("a", "c"),)), is_filling(PATH, 2, (("a", "b"),)), filling(FULL, 1), is_filling_paper(PATH, 2, ((("a", "c"),), ((("a", "b"), ("b", "c")), (("a", "b"), ("a", "c"))), (("a", "b"), ("c",))))]
+[2, True, False, (), True]
+"""
+
+GAME = """
+>>> start = ({}, {})
+>>> [winner(FULL, start, "cutter"), winner(RING, start, "keeper"), winner(PATH, start, "cutter"), winner(PATH, start, "keeper"), best_move(PATH, start, "keeper"), best_move(RING, start, "keeper")]
+['keeper', 'cutter', 'cutter', 'keeper', ('b', 'c'), None]
+>>> [is_game_paper(PATH, start, "keeper", ("move", ("b", "c"), (("a", "b"),), (("a", "b"),))), is_game_paper(RING, start, "keeper", ("bar", (("a",), ("b",), ("c",), ("d",)))), is_best_move(PATH, start, "cutter", ("b", "c")), free(PATH, ({("a", "b"): 1}, {}))]
+[True, True, True, {('a', 'b'): 1, ('b', 'c'): 1}]
+>>> play = Play(PATH)
+>>> [play.move("a", "b"), play.turn, play.reply(), play.position, play.winner, play.undo(), str(play)]
+['cutter', 'keeper', ('a', 'b'), ({('a', 'b'): 1}, {('a', 'b'): 1}), 'cutter', 1, 'play of 1 moves, cutter wins']
+"""
+
+LIVE = """
+>>> live = Live(PATH)
+>>> [facts(PATH), live.tie("b", "c"), live["forests"], live.pin(("trees", 2)), live.log]
+[{'crowding': (2, 1), 'forests': 2, 'least': 1, 'strength': (1, 1), 'trees': 1}, (('least', 1, 2), ('strength', (1, 1), (2, 1)), ('trees', 1, 2)), 2, (), ('tie', 'pin')]
+>>> live.untie("a", "b")
+raises Refused
+>>> [live.undo(many=2), live.net == PATH, live.redo(), live.pins, str(live), live.during(lambda same: same.untie("a", "b"))[0], live["least"]]
+[(('least', 2, 1), ('strength', (2, 1), (1, 1)), ('trees', 2, 1)), True, (('least', 1, 2), ('strength', (1, 1), (2, 1)), ('trees', 1, 2)), (), 'net of 3 places, 4 ties; 0 pins', ('least', 2, 1), 2]
+"""
+
+TEXTS = """
+>>> [write("parting", (("a", "b"), ("c",))), write("forest", ()), write("streets", {("c", "b"): 1, ("a", "b"): 2}), write("net", PATH), write("claim", ("strength", (3, 2)))]
+['a b | c', '-', 'a>b:2 c>b:1', 'a b c\\na-b:2\\nb-c:1', 'strength 3/2']
+>>> [read("net", "a b c\\na-b:2\\nb-c:1") == PATH, read("tree", "a-b:2 b-c:1"), read("claim", "number a z 3"), is_text("forest", "b-a"), is_text("lot", "-")]
+[True, (('a', 'b', 2), ('b', 'c', 1)), ('number', 'a', 'z', 3), False, True]
+>>> read("net", "a b\\na-c")
+raises ParseError
+"""
+
+SHELL = """
+>>> shell = Shell()
+>>> [shell.tell("least"), shell.tell("net a b c; a-b:2; b-c:1"), shell.tell("tie b c 1"), shell.tell("pin trees 2"), shell.tell("untie a b 1"), shell.tell("strength")]
+['error InvalidNet', 'ok', 'least 1 2; strength 1/1 2/1; trees 1 2', '-', 'error Refused', '2/1']
+>>> [shell.tell("number a c"), shell.tell("pins"), shell.tell("show"), shell.tell("undo 2"), shell.tell("jump"), shell.tell_all(("add d", "least")), len(shell)]
+['2', 'trees 2', 'a b c; a-b:2; b-c:2', 'least 2 1; strength 2/1 1/1; trees 2 1', 'error ParseError', ('least 1 0; strength 1/1 0/1; trees 1 0', '0'), 10]
+"""
+
 MODULES = (
     words, nets, lots, numbers, trees, cuts, webs, joins, odd_cuts, packed, covers, turned, strength, crowds, streets,
-    rooted, pairs, carried, more_cuts)
+    rooted, pairs, carried, more_cuts, more_trees, game, live, texts, shell)
 # "The examples use the values of earlier examples."
 ROUND_WAY = STREETS[:STREETS.index("\n", 1)]
 # The document shows an error by its name alone, where Python shows where it was raised.
@@ -239,6 +288,21 @@ class TestExamples(unittest.TestCase):
 
     def test_more_cuts(self):
         self.check(MORE_CUTS)
+
+    def test_more_trees(self):
+        self.check(MORE_TREES)
+
+    def test_game(self):
+        self.check(GAME)
+
+    def test_live(self):
+        self.check(LIVE)
+
+    def test_texts(self):
+        self.check(TEXTS)
+
+    def test_shell(self):
+        self.check(SHELL)
 
 
 if __name__ == "__main__":

@@ -4,6 +4,8 @@ import importlib
 import inspect
 import unittest
 
+from tests.helpers import PATH
+
 MODULES = {
     "holdsfast.errors": {
         "ParseError": "line", "UnknownPlace": "place", "InvalidNumber": "value", "TooMany": "limit",
@@ -94,21 +96,48 @@ MODULES = {
         "fewest_raising": "net", "raising": "net", "is_raising": "net, value", "raising_paper": "net",
         "is_raising_paper": "net, value", "with_ties": "net, ties",
     },
+    "holdsfast.more.trees": {
+        "lack": "net, many", "worst_partings": "net, many", "coarsest_worst": "net, many", "needed_pairs": "net, many",
+        "filling": "net, many", "is_filling": "net, many, value", "filling_paper": "net, many",
+        "is_filling_paper": "net, many, value",
+    },
+    "holdsfast.play.game": {
+        "is_position": "net, value", "free": "net, position", "winner": "net, position, turn",
+        "game_paper": "net, position, turn", "is_game_paper": "net, position, turn, value",
+        "best_move": "net, position, turn", "is_best_move": "net, position, turn, value", "Play": "net",
+    },
+    "holdsfast.use.live": {"facts": "net", "is_claim": "value", "does_hold": "net, claim", "Live": "net"},
+    "holdsfast.text.texts": {
+        "is_kind": "value", "write": "kind, value", "read": "kind, text", "is_text": "kind, value",
+    },
+    "holdsfast.text.shell": {"Shell": ""},
 }
 CONSTANTS = (
     ("holdsfast.base.words", "MAX_LETTERS", 8), ("holdsfast.base.nets", "MAX_PLACES", 7),
     ("holdsfast.base.nets", "MAX_TIES", 30), ("holdsfast.base.nets", "MAX_MADE", 60),
     ("holdsfast.trees.packed", "MAX_TREES", 60), ("holdsfast.trees.turned", "MAX_TOLD", 60),
     ("holdsfast.ways.rooted", "MAX_ROOTS", 30),
+    ("holdsfast.use.live", "WORDS", ("crowding", "forests", "least", "strength", "trees")),
+    ("holdsfast.text.texts", "KINDS", ("claim", "forest", "join", "lot", "net", "parting", "streets", "tree")),
 )
 PLAIN_ERRORS = ("NetError", "InvalidNet", "InvalidLot", "InvalidParting", "InvalidOperation")
-METHODS = {
-    "full": "places, *, many=1", "ring": "places, *, many=1", "tied": "one, other", "near": "place",
-    "joined": "one, other, many=1", "untied": "one, other, many=1", "with_place": "place", "without_place": "place",
-    "within": "lot", "shrunk": "lot, place", "renamed": "names", "times": "many", "plus": "other",
+# For each class its methods with their arguments, its properties, and its methods with double underscores.
+CLASSES = {
+    "holdsfast.base.nets.Net": (
+        {"full": "places, *, many=1", "ring": "places, *, many=1", "tied": "one, other", "near": "place",
+         "joined": "one, other, many=1", "untied": "one, other, many=1", "with_place": "place", "without_place": "place",
+         "within": "lot", "shrunk": "lot, place", "renamed": "names", "times": "many", "plus": "other"},
+        "places ties size pairs degrees odd pieces is_joined", "len contains iter eq str"),
+    "holdsfast.play.game.Play": (
+        {"move": "one, other", "reply": "", "undo": "*, many=1", "branch": ""},
+        "net position turn moves winner", "len iter eq str"),
+    "holdsfast.use.live.Live": (
+        {"tie": "one, other, many=1", "untie": "one, other, many=1", "add": "place", "remove": "place",
+         "shrink": "lot, place", "rename": "names", "pin": "claim", "unpin": "claim", "undo": "*, many=1",
+         "redo": "*, many=1", "attempt": "", "during": "call", "twin": ""},
+        "net pins log", "getitem contains len iter eq str"),
+    "holdsfast.text.shell.Shell": ({"tell": "line", "tell_all": "lines", "live": ""}, "", "len"),
 }
-PROPERTIES = ("places", "ties", "size", "pairs", "degrees", "odd", "pieces", "is_joined")
-OPERATORS = ("__len__", "__contains__", "__iter__", "__eq__", "__str__")
 
 
 class TestInterface(unittest.TestCase):
@@ -129,18 +158,20 @@ class TestInterface(unittest.TestCase):
         for name in PLAIN_ERRORS:
             self.assertEqual(vars(held)[name].__module__, "holdsfast.errors")
 
-    def test_net(self):
-        net = importlib.import_module("holdsfast.base.nets").Net
-        made = net(("a", "b"))
-        for name, arguments in METHODS.items():
-            self.assertIn(name, vars(net))
-            self.assertEqual(str(inspect.signature(getattr(made, name))), f"({arguments})", name)
-        for name in ("full", "ring"):
-            self.assertIsInstance(vars(net)[name], classmethod)
-        for name in PROPERTIES:
-            self.assertIsInstance(vars(net)[name], property)
-        for name in OPERATORS:
-            self.assertIn(name, vars(net))
+    def test_classes(self):
+        for path, (methods, properties, operators) in CLASSES.items():
+            module, name = path.rsplit(".", 1)
+            held = vars(importlib.import_module(module))[name]
+            made = held() if name == "Shell" else held(("a", "b")) if name == "Net" else held(PATH)
+            for method, arguments in methods.items():
+                self.assertIn(method, vars(held))
+                self.assertEqual(str(inspect.signature(getattr(made, method))), f"({arguments})", method)
+            for word in properties.split():
+                self.assertIsInstance(vars(held)[word], property)
+            for word in operators.split():
+                self.assertIn(f"__{word}__", vars(held))
+        for word in ("full", "ring"):
+            self.assertIsInstance(vars(type(PATH))[word], classmethod)
 
 
 if __name__ == "__main__":

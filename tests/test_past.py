@@ -45,13 +45,17 @@ def beside(net, place):
     return {pair: many for pair, many in find_numbers(net).items() if place not in pair}
 
 
-def plain_rows(net, place):
-    """Find all whole rows, each with its pairs ascending, by all ways of pairing the ties of the place."""
+def paired_rows(net, place):
+    """Find all rows, each with its pairs ascending, by all ways of pairing the ties of the place."""
     ends = sorted(one if other == place else other for one, other in tie_list(net) if place in (one, other))
+    return sorted({tuple(sorted(row)) for row in ways_of_pairing(ends)}) if len(ends) % 2 == 0 else []
+
+
+def whole_ones(net, place, rows):
+    """Return those rows behind which all numbers of other places are as at first."""
     told = beside(net, place)
-    rows = {tuple(sorted(row)) for row in ways_of_pairing(ends)}
     found = []
-    for row in sorted(rows):
+    for row in rows:
         behind = net
         for pair in row:
             behind = plain_led(behind, place, pair)
@@ -164,8 +168,11 @@ class TestRows(unittest.TestCase):
         for net in FEW + tuple(bunches()):
             for place in net.places:
                 if net.degrees[place] <= 8:
-                    rows = plain_rows(net, place) if net.degrees[place] % 2 == 0 else []
+                    all_rows = paired_rows(net, place)
+                    rows = whole_ones(net, place, all_rows)
                     self.check_rows(net, place, rows)
+                    for row in all_rows[::5]:
+                        self.assertIs(is_whole_row(net, place, row), row in rows)
                     some, none = some + bool(rows), none + (not rows)
         self.assertGreater(min(some, none), 100)
 
@@ -202,8 +209,16 @@ class TestRows(unittest.TestCase):
         star = from_ties(tuple("abcdefg"), [("a", other) for other in "bcdefg"] * 10)
         row = whole_row(star, "a")
         self.assertEqual((len(row), is_whole_row(star, "a", row)), (30, True))
+        self.assertIsNone(whole_row(star.untied("a", "b"), "a"))
         bundle = from_ties(("a", "b"), [("a", "b")] * 60)
         self.assertEqual(whole_row(bundle, "a"), (("b", "b"),) * 30)
+
+    def test_many_ties_in_vain(self):
+        # No tie of the others can be spared for the two that are the only way over.
+        net = from_ties(tuple("abcwxz"), [("a", "z"), ("b", "z"), ("c", "z")] * 18 + [("w", "z"), ("x", "z")])
+        self.assertIsNone(whole_row(net, "z"))
+        row = whole_row(net.joined("a", "b").joined("a", "c").joined("b", "c"), "z")
+        self.assertTrue(row is None or len(row) == 28)
 
     def test_one_thing_changed(self):
         for net, place in ((HUB, "z"), (RING, "b"), (PATH, "a"), (FULL.times(2), "a"), (POINT, "a"), (BARE, "a")):
@@ -291,7 +306,8 @@ class TestRefusals(Refusals, unittest.TestCase):
                   or value in PATH.places]
         pairs = [(value, (InvalidOperation, None)) for value in ODD_VALUES + (
             (("b", "a"),), (("a", "b"),) * 3, (("a", "c"),), (("a", "b"), ("a", "c")), (["a", "b"],), (("a", "b", "c"),),
-            (("a", "q"),), (("q", "q"),), [("a", "b")], (("a", "b"), None), (("a", ["b"]),))
+            (("a", "q"),), (("q", "q"),), [("a", "b")], (("a", "b"), None), (("a", ["b"]),), (("A", "b"),), ((1, "b"),),
+            (("a", 1),), (("aa", "b"),), ((None, None),))
             if not same(value, ()) and not same(value, (("a", "b"),))]
         told = [("net", PATH, wrong_nets()), ("place", "z", places), ("pairs", (("a", "b"), ("c", "c")), pairs)]
         self.check_refusals(pinched, told)

@@ -1,7 +1,7 @@
 """Checks of arguments that many functions share, each with the error that it raises."""
 
 from holdsfast.base.words import is_integer
-from holdsfast.errors import InvalidNumber, InvalidOperation, UnknownPlace
+from holdsfast.errors import InvalidNumber, InvalidOperation, NothingToUndo, UnknownPlace
 
 
 def check_place(places, place):
@@ -28,3 +28,11 @@ def check_number(many, least, most):
     """Refuse what is no integer between two bounds, which are let."""
     if not is_integer(many) or not least <= many <= most:
         raise InvalidNumber(many)
+
+
+def check_steps(many, most):
+    """Refuse what is no integer of at least 0, and more steps than there are."""
+    if not is_integer(many) or many < 0:
+        raise InvalidNumber(many)
+    if many > most:
+        raise NothingToUndo(many)

@@ -1,7 +1,7 @@
 """Lots of places with their cuts, and partings of a net."""
 
 from holdsfast.base.nets import check_net
-from holdsfast.base.parts import all_lots, all_partings, gathered, is_ascending, is_lot_of, is_pair_of
+from holdsfast.base.parts import all_lots, all_partings, gathered, is_ascending, is_forest_of, is_lot_of
 from holdsfast.errors import InvalidLot, InvalidOperation, InvalidParting
 
 
@@ -64,8 +64,11 @@ def _inside_of(ties, lot):
 
 def inside_table(net):
     """Return the dict from all lots with a place, one of all places too, to the numbers of ties inside."""
-    ties = net.ties
-    return {lot: _inside_of(ties, lot) for lot in all_lots(net.places) if lot}
+    return _insides(net.places, net.ties)
+
+
+def _insides(places, ties):
+    return {lot: _inside_of(ties, lot) for lot in all_lots(places) if lot}
 
 
 def cut_table(net):
@@ -107,23 +110,20 @@ def across(net, parting):
 
 def across_table(net):
     """Return the dict from all partings, ascending, to the numbers of ties across."""
-    held = inside_table(net)
-    return {
-        parting: net.size - sum([held[part] for part in parting])
-        for parting in all_partings(net.places)
-    }
+    return across_counts(net.places, net.ties)
+
+
+def across_counts(places, ties):
+    """Return this dict for some ties between the places, as many as they may be."""
+    held = _insides(places, ties)
+    size = sum(list(ties.values()))
+    return {parting: size - sum([held[part] for part in parting]) for parting in all_partings(places)}
 
 
 def is_net_forest(net, value):
     """Tell whether a value is a forest of the net."""
     check_net(net)
-    if not isinstance(value, tuple) or not all([is_pair_of(net.places, pair) for pair in value]):
-        return False
-    ties = net.ties
-    if not is_ascending(value) or not all([pair in ties for pair in value]):
-        return False
-    # Each pair that closes no circle makes one part out of two.
-    return len(gathered(net.places, value)) == len(net) - len(value)
+    return is_forest_of(net.places, net.ties, value)
 
 
 def parted_by(net, forest):

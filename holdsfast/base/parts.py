@@ -44,6 +44,21 @@ def gathered(places, pairs):
     return tuple(sorted([tuple(part) for part in parts.values()]))
 
 
+def is_forest_of(places, ties, value):
+    """Tell whether a value is an ascending tuple of pairs that have ties, along which nothing goes round."""
+    if not isinstance(value, tuple) or not all([is_pair_of(places, pair) for pair in value]):
+        return False
+    if not is_ascending(value) or not all([pair in ties for pair in value]):
+        return False
+    # Each pair that closes no circle makes one part out of two.
+    return len(gathered(places, value)) == len(places) - len(value)
+
+
+def is_across(parting, pair):
+    """Tell whether both places of a pair are in two parts."""
+    return not any([pair[0] in part and pair[1] in part for part in parting])
+
+
 def all_lots(places):
     """Return the ascending list of all lots of ascending places, none and all of them let."""
     rows = [()]

@@ -2,7 +2,7 @@
 
 from holdsfast.base.lots import inside, inside_table
 from holdsfast.base.nets import check_net, check_several
-from holdsfast.base.parts import is_lot_of
+from holdsfast.base.parts import is_across, is_lot_of
 from holdsfast.base.words import fraction, greatest
 from holdsfast.least.cuts import is_lesser
 from holdsfast.part.strength import chain, critical_levels
@@ -67,7 +67,7 @@ def layers(net):
     found = {}
     # The coarsest least parting at a critical level is the finest one at the level ahead of it.
     for level, parting in zip(critical_levels(net), chain(net)):
-        for one, other in net.ties:
-            if any([one in part and other in part for part in parting]):
-                found[(one, other)] = level
+        for pair in net.ties:
+            if not is_across(parting, pair):
+                found[pair] = level
     return {pair: found[pair] for pair in net.ties}

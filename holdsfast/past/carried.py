@@ -72,18 +72,16 @@ def is_taken_back(net, place, row, streets, value):
     if not is_streets(net, value):
         return False
     # The streets between two places that the value lacks have become ways by the place.
-    forth = {pair: streets.get(pair, 0) - value.get(pair, 0) for pair in many if pair[0] != pair[1]}
-    back = {pair: streets.get(pair[::-1], 0) - value.get(pair[::-1], 0) for pair in forth}
-    if not all([min(forth[pair], back[pair]) >= 0 and forth[pair] + back[pair] == many[pair] for pair in forth]):
+    forth = {pair: streets.get(pair, 0) - value.get(pair, 0) for pair in many}
+    if not all([0 <= forth[pair] <= many[pair] for pair in many]):
         return False
-    forth = {pair: forth.get(pair, many[pair]) for pair in many}
     return _led_back(place, many, forth, streets) == value
 
 
 def _checked_times(net, place, row, streets):
     """Check the arguments, and return the dict from the pairs of a row to how often they stand in it."""
     check_streets(carried_net(net, place, row), streets)
-    return {pair: row.count(pair) for pair in sorted(list(row))}
+    return {pair: row.count(pair) for pair in row}
 
 
 def _led_back(place, many, forth, streets):

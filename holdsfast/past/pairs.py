@@ -25,7 +25,6 @@ def keeping_pairs(net, place):
 
 def other_numbers(net, place):
     """Return the dict from the pairs of places other than one to their numbers."""
-    check_at(net, place)
     told = numbers(net)
     return {pair: told[pair] for pair in told if place not in pair}
 

@@ -1,0 +1,1 @@
+"""A game of cutting and keeping ties."""

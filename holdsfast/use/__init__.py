@@ -1,0 +1,1 @@
+"""A net that is changed step by step."""
