@@ -334,6 +334,16 @@ class TestLive(unittest.TestCase):
         with block:
             live.undo(many=3)
         self.assertEqual(live.log, ("tie", "tie", "untie"))
+        # To ask for a block alone, and a twin that is made inside of one, change nothing.
+        live.attempt()
+        with live.attempt():
+            live.add("x")
+            twin = live.twin()
+            with twin.attempt():
+                twin.add("y")
+            self.assertEqual((twin.log, twin == live), (("tie", "tie", "untie", "add"), True))
+        twin.remove("x")
+        self.assertEqual((live.log, twin.log[-1]), (("tie", "tie", "untie"), "remove"))
 
     def test_during(self):
         live = Live(PATH)

@@ -14,7 +14,7 @@ EMPTY = "-"
 
 def is_kind(value):
     """Tell whether a value is a kind."""
-    return isinstance(value, str) and value in KINDS
+    return value in KINDS
 
 
 def write(kind, value):
@@ -45,7 +45,6 @@ def read(kind, text):
 
 def is_text(kind, value):
     """Tell whether a value is a text that is read as a value of this kind."""
-    _check_kind(kind)
     try:
         read(kind, value)
     except (ParseError, InvalidNet):
@@ -59,7 +58,7 @@ def _check_kind(kind):
 
 
 def number_of(text):
-    """Return the integer with a text, None if there is none."""
+    """Return the integer of at most twelve digits with a text, None if there is none."""
     digits = text.removeprefix("-")
     if not 1 <= len(digits) <= MAX_DIGITS or not all(["0" <= sign <= "9" for sign in digits]):
         return None

@@ -81,24 +81,8 @@ class Moment:
         _, self.held, self.known, self.claims = steps[at]
 
 
-class Block:
-    """A block of trials: when it is left, the live net is as it was when it was entered."""
-
-    def __init__(self, live):
-        self._live = live
-        self._entered = None
-
-    def __enter__(self):
-        self._entered = Entry(self._live._now, self._entered)
-        return self._live
-
-    def __exit__(self, *told):
-        self._live._now = self._entered.now
-        self._entered = self._entered.further
-
-
 class Entry:
-    """What a live net was when a block was entered, and the entry further out if the block is entered twice."""
+    """Where a live net was when a block was entered, and the entry of the block around it."""
 
     def __init__(self, now, further):
         self.now = now
@@ -110,6 +94,7 @@ class Live:
 
     def __init__(self, net):
         self._now = Moment((("", net, facts(net), ()),), 0)
+        self._entered = None
 
     @property
     def net(self):
@@ -197,8 +182,16 @@ class Live:
         return self._go(self._now.steps, self._now.at + many)
 
     def attempt(self):
-        """Return a block for `with`, behind which the live net is as it was."""
-        return Block(self)
+        """Return the live net for `with`: when the block is left, it is as it was when the block was entered."""
+        return self
+
+    def __enter__(self):
+        self._entered = Entry(self._now, self._entered)
+        return self
+
+    def __exit__(self, *told):
+        self._now = self._entered.now
+        self._entered = self._entered.further
 
     def during(self, call):
         """Return what a function returns that is called with the live net in such a block."""
